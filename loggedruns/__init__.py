@@ -1,0 +1,1 @@
+"""Loggedruns: what a log surely tells of the runs that wrote it."""

@@ -1,0 +1,154 @@
+"""Runs that fit a sheet: the shortest one, the stands they come to, what gaps stand for."""
+
+from loggedruns.covers import LIMIT, are_pairs, is_ascending, is_cover
+from loggedruns.errors import NoItem, TooMany
+from loggedruns.fields import closing, distances, field_of, least_table, turned
+from loggedruns.sheets import check_end, check_sheet
+from loggedruns.spots import is_gap
+from loggedruns.words import is_between, is_tuple_of, is_whole
+
+MOST_FILLINGS = 200
+
+
+def least_run(field, table, left):
+    """The least of the shortest runs that fit; left tells how many steps each pair needs."""
+    pairs = [field.first()]
+    run = []
+    for number in reversed(range(left[field.first()])):
+        found = [(step, target) for pair in without_steps(table, pairs) for step, _, target in table[pair]
+                 if step is not None and left.get(target, -1) == number]
+        # All these pairs have one stand, that of the run so far: its steps can be compared.
+        least = min([step for step, _ in found])
+        run.append(least)
+        pairs = [target for step, target in found if step == least]
+    return tuple(run)
+
+
+def without_steps(table, pairs):
+    """These pairs and all to which passes lead from them."""
+    queue = list(pairs)
+    found = {}
+    while queue:
+        pair = queue.pop()
+        if pair not in found:
+            found[pair] = True
+            queue.extend([target for step, _, target in table[pair] if step is None])
+    return list(found)
+
+
+def fitting(maker, sheet, *, end=None):
+    """The shortest run that fits, or a cover in which no pair closes."""
+    field = field_of(maker, sheet, end)
+    table = least_table(field, LIMIT)
+    left = distances(turned(table), closing(field, table))
+    if not left:
+        return ("none", tuple(sorted(table)))
+    return ("run", least_run(field, table, left))
+
+
+def shows_none(maker, sheet, value, *, end=None):
+    """Whether any value is a cover in which no pair closes."""
+    field = field_of(maker, sheet, end)
+    return is_cover(field, value) and not closing(field, value)
+
+
+def shortest(maker, sheet, *, end=None):
+    """The shortest run that fits, with heights that show that none is shorter."""
+    field = field_of(maker, sheet, end)
+    table = least_table(field, LIMIT)
+    left = distances(turned(table), closing(field, table))
+    if not left:
+        return None
+    far = distances(table, [field.first()])
+    heights = tuple(sorted([(stand, spot, height) for (stand, spot), height in far.items()]))
+    return (least_run(field, table, left), heights)
+
+
+def shows_shortest(maker, sheet, length, value, *, end=None):
+    """Whether any value is heights that show that no run that fits is shorter than length."""
+    field = field_of(maker, sheet, end)
+    heights = heights_of(field, value)
+    if heights is None or heights.get(field.first(), 1) > 0:
+        return False
+    for pair, height in heights.items():
+        for step, _, target in field.links(pair):
+            rise = 0 if step is None else 1
+            if target not in heights or heights[target] > height + rise:
+                return False
+    return all([heights[pair] >= length for pair in closing(field, heights)])
+
+
+def heights_of(field, value):
+    """The dict of heights that any value tells, None if it is no ascending tuple of them."""
+    if not isinstance(value, tuple) or not all([is_tuple_of(member, 3) for member in value]):
+        return None
+    if not all([is_whole(member[2]) for member in value]):
+        return None
+    pairs = tuple([member[:2] for member in value])
+    # Ascending pairs are ascending members, and none of them stands twice.
+    if not are_pairs(field, pairs) or not is_ascending(pairs):
+        return None
+    return {member[:2]: member[2] for member in value}
+
+
+def check_item(sheet, copy, index):
+    """Raises NoItem for any values that are no copy, no index of it or behind its items."""
+    if not is_between(copy, 0, len(sheet) - 1):
+        raise NoItem(copy)
+    if not is_between(index, 0, len(sheet[copy])):
+        raise NoItem(index)
+
+
+def useful(field):
+    """The members of the least cover from which a run that fits goes on, with their links to such."""
+    table = least_table(field, LIMIT)
+    left = distances(turned(table), closing(field, table))
+    return {pair: [link for link in table[pair] if link[2] in left] for pair in table if pair in left}
+
+
+def stands_at(maker, sheet, copy, index, *, end=None):
+    """The stands that runs that fit have where the copy is read up to the index."""
+    check_sheet(sheet)
+    check_item(sheet, copy, index)
+    field = field_of(maker, sheet, end)
+    return tuple(sorted({pair[0] for pair in useful(field) if pair[1][copy] == (index, 0)}))
+
+
+def fillings(maker, sheet, copy, index, *, end=None):
+    """The tuples of entries that an integer gap stands for in runs that fit."""
+    check_sheet(sheet)
+    check_item(sheet, copy, index)
+    if index == len(sheet[copy]) or not is_gap(sheet[copy][index]):
+        raise NoItem(index)
+    check_end(end)
+    table = useful(field_of(maker, sheet, end))
+    found = {(): [pair for pair in table if pair[1][copy] == (index, 0)]}
+    for _ in range(sheet[copy][index]):
+        found = longer(table, found)
+        # Each of these begins another filling, so there are as many of them at least.
+        if len(found) > MOST_FILLINGS:
+            raise TooMany(MOST_FILLINGS)
+    return tuple(sorted(found))
+
+
+def longer(table, found):
+    """From the entries of a gap so far, with the pairs behind them, those with one entry more."""
+    grown = {}
+    for entries, pairs in found.items():
+        for pair in without_entries(table, pairs):
+            for _, entry, target in table[pair]:
+                if entry is not None:
+                    grown.setdefault((*entries, entry), {})[target] = True
+    return {entries: list(targets) for entries, targets in grown.items()}
+
+
+def without_entries(table, pairs):
+    """These pairs and all that are reached from them while the log gets nothing."""
+    queue = list(pairs)
+    found = {}
+    while queue:
+        pair = queue.pop()
+        if pair not in found:
+            found[pair] = True
+            queue.extend([target for _, entry, target in table[pair] if entry is None])
+    return list(found)

@@ -1,0 +1,39 @@
+"""Recorders, and makers: programs whose logs recorders keep."""
+
+from loggedruns.errors import BadMaker, BadRecorder
+from loggedruns.programs import Program
+from loggedruns.words import is_between
+
+
+class Recorder:
+    """Keeps a log: from which level on, each so many an entry lost, with the names of hands or without."""
+
+    def __init__(self, *, level=1, every=0, names=True):
+        if not is_between(level, 1, 3):
+            raise BadRecorder(level)
+        if not is_between(every, 0, 4) or every == 1:
+            raise BadRecorder(every)
+        if not isinstance(names, bool):
+            raise BadRecorder(names)
+        self.level = level
+        self.every = every
+        self.names = names
+
+    def __eq__(self, other):
+        return (isinstance(other, Recorder) and self.level == other.level
+                and self.every == other.every and self.names == other.names)
+
+
+class Maker:
+    """A program with the recorder that keeps its log."""
+
+    def __init__(self, program, recorder):
+        if not isinstance(program, Program):
+            raise BadMaker(program)
+        if not isinstance(recorder, Recorder):
+            raise BadMaker(recorder)
+        self.program = program
+        self.recorder = recorder
+
+    def __eq__(self, other):
+        return isinstance(other, Maker) and self.program == other.program and self.recorder == other.recorder

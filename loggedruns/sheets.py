@@ -1,0 +1,51 @@
+"""Sheets: what is there of a log, and which runs fit it."""
+
+from loggedruns.errors import BadEnd, BadSheet
+from loggedruns.spots import MOST_COPIES, first_spot, is_copy, is_read, passes, taken
+from loggedruns.stands import led_and_log, state
+
+
+def is_sheet(value):
+    """Whether any value is a sheet."""
+    return isinstance(value, tuple) and 1 <= len(value) <= MOST_COPIES and all([is_copy(copy) for copy in value])
+
+
+def check_sheet(sheet):
+    """Raises BadSheet for any value that is none."""
+    if not is_sheet(sheet):
+        raise BadSheet(sheet)
+
+
+def check_end(end):
+    """Raises BadEnd for any value that is none."""
+    if end is not None and not (isinstance(end, str) and end in ("over", "open")):
+        raise BadEnd(end)
+
+
+def ends_so(maker, stand, end):
+    """Whether a run with this last stand is as the end asks."""
+    return end is None or (state(maker, stand) == "open") == (end == "open")
+
+
+def with_passes(sheet, spots):
+    """These spots and all to which passes lead from them, each once."""
+    queue = list(spots)
+    found = {}
+    while queue:
+        spot = queue.pop()
+        if spot not in found:
+            found[spot] = True
+            queue.extend(passes(sheet, spot))
+    return list(found)
+
+
+def fits(maker, sheet, run, *, end=None):
+    """Whether a run fits a sheet."""
+    check_sheet(sheet)
+    stand, log = led_and_log(maker, run)
+    check_end(end)
+    spots = with_passes(sheet, [first_spot(sheet)])
+    for entry in log:
+        coming = [taken(sheet, spot, entry) for spot in spots]
+        spots = with_passes(sheet, [spot for spot in coming if spot is not None])
+    return ends_so(maker, stand, end) and any([is_read(sheet, spot) for spot in spots])

@@ -1,0 +1,74 @@
+"""Stands of makers, the steps between them, and runs."""
+
+from loggedruns.doing import step_done, steps_from
+from loggedruns.errors import BadRun, NoStep
+from loggedruns.forms import Forms
+from loggedruns.words import is_whole
+
+
+def first_stand(maker):
+    """The stand at which all runs begin."""
+    program = maker.program
+    many = len(program.hands)
+    place = (program.entrances[program.hands[0]],)
+    hands = (place,) + ((),) * (many - 1)
+    cells = (0,) * len(program.cells)
+    locks = (-1,) * len(program.locks)
+    return (hands, cells, locks, ((),) * many, 0, 0, False)
+
+
+def steps(maker, stand):
+    """The ascending tuple of the steps that can be done."""
+    return tuple(steps_from(maker, stand))
+
+
+def is_among(value, found):
+    """Whether any value is one of these steps: True is not 1, and a list no tuple."""
+    if not isinstance(value, tuple) or not 1 <= len(value) <= 3 or not isinstance(value[0], str):
+        return False
+    if len(value) > 1 and not is_whole(value[1]):
+        return False
+    if len(value) > 2 and value[2] is not None and not is_whole(value[2]):
+        return False
+    return value in found
+
+
+def after(maker, stand, step):
+    """The stand behind a step, and the entry that the log gets by it, None without one."""
+    if not is_among(step, steps_from(maker, stand)):
+        raise NoStep(step)
+    return step_done(maker, stand, step)
+
+
+def is_stand(maker, value):
+    """Whether any value is a stand by its form."""
+    return Forms(maker).is_stand(value)
+
+
+def led_and_log(maker, run):
+    """The stand behind a run and the list of what the log gets by it."""
+    if not isinstance(run, tuple):
+        raise BadRun(run)
+    stand, log = first_stand(maker), []
+    for step in run:
+        if not is_among(step, steps_from(maker, stand)):
+            raise BadRun(run)
+        stand, entry = step_done(maker, stand, step)
+        if entry is not None:
+            log.append(entry)
+    return (stand, log)
+
+
+def led(maker, run):
+    """The stand behind a run."""
+    stand, _ = led_and_log(maker, run)
+    return stand
+
+
+def state(maker, stand):
+    """Whether something can be done; if not, how it ended."""
+    if steps_from(maker, stand):
+        return "open"
+    if stand[6]:
+        return "fallen"
+    return "done" if all([place == () for place in stand[0]]) else "stuck"

@@ -1,0 +1,75 @@
+"""What several tests need: the document's programs, odd values, strict comparison."""
+
+import copy
+import unittest
+
+from loggedruns.makers import Maker, Recorder
+from loggedruns.programs import Program
+from loggedruns.stands import after, first_stand
+
+GATE = ('cell x 2\nbox 1\nhand one\n  a: ask x\n  start two\n  while x > 0\n    b: add x -1\n'
+        '    log 1 went x\n  c: log 2 done\nhand two\n  d: set x 2')
+TINY = 'cell x 1\nhand h\n  a: ask x\n  log 1 go\n  if x > 0\n    b: log 1 hot\n  c: stop'
+
+
+def nested(depth, wrap):
+    value = 1
+    for _ in range(depth):
+        value = wrap(value)
+    return value
+
+
+ODD = (
+    None, True, False, 0, 1, -1, 5, 2 ** 80, '', 'a', 'x', 'open ', 'Over', 'two words', (), (0,), ((0,),),
+    [], [1, 2], ['over'], {}, {'a': 1}, {1: [2]}, (1, True), ((), ()), (None, None),
+    nested(30, lambda value: (value,)), nested(30, lambda value: [value]), nested(30, lambda value: {'k': value}),
+)
+
+
+def maker(text, **recorder):
+    return Maker(Program(text), Recorder(**recorder))
+
+
+def do(hand, value=None):
+    return ('do', hand, value)
+
+
+def write(hand):
+    return ('write', hand)
+
+
+AGAIN = ('again',)
+
+
+def gone(made, *run):
+    """The stand behind steps that are known to be possible."""
+    stand = first_stand(made)
+    for step in run:
+        stand, _ = after(made, stand, step)
+    return stand
+
+
+def strict(value):
+    """A text by which values that are equal but of another kind differ."""
+    if isinstance(value, (tuple, list)):
+        return type(value).__name__ + '(' + ','.join([strict(member) for member in value]) + ')'
+    return type(value).__name__ + repr(value)
+
+
+class Case(unittest.TestCase):
+    def told(self, error, value, deed, *words, **more):
+        """The deed raises just this error, which keeps just this value."""
+        with self.assertRaises(error) as held:
+            deed(*words, **more)
+        self.assertIs(type(held.exception), error)
+        self.assertEqual(strict(held.exception.value), strict(value))
+
+    def same(self, value, expected):
+        self.assertEqual(strict(value), strict(expected))
+
+    def unchanged(self, deed, *words, **more):
+        """What the deed returns; what it was handed stays as it was."""
+        ahead = copy.deepcopy((words, more))
+        result = deed(*words, **more)
+        self.assertEqual(strict(ahead[0]), strict(words))
+        return result
