@@ -1,6 +1,5 @@
 """What several tests need: the document's programs, odd values, strict comparison."""
 
-import copy
 import unittest
 
 from loggedruns.makers import Maker, Recorder
@@ -53,23 +52,30 @@ def strict(value):
     """A text by which values that are equal but of another kind differ."""
     if isinstance(value, (tuple, list)):
         return type(value).__name__ + '(' + ','.join([strict(member) for member in value]) + ')'
+    if isinstance(value, dict):
+        return 'dict(' + ','.join([strict(pair) for pair in value.items()]) + ')'
+    if not isinstance(value, (int, str, type(None))):
+        return type(value).__name__
     return type(value).__name__ + repr(value)
 
 
 class Case(unittest.TestCase):
     def told(self, error, value, deed, *words, **more):
-        """The deed raises just this error, which keeps just this value."""
+        """The deed raises just this error, which keeps just this value; what it was handed stays as it was."""
+        ahead = strict([words, more])
         with self.assertRaises(error) as held:
             deed(*words, **more)
         self.assertIs(type(held.exception), error)
         self.assertEqual(strict(held.exception.value), strict(value))
+        self.assertEqual(strict([words, more]), ahead)
 
     def same(self, value, expected):
         self.assertEqual(strict(value), strict(expected))
 
     def unchanged(self, deed, *words, **more):
-        """What the deed returns; what it was handed stays as it was."""
-        ahead = copy.deepcopy((words, more))
+        """What the deed returns, twice the same; what it was handed stays as it was."""
+        ahead = strict([words, more])
         result = deed(*words, **more)
-        self.assertEqual(strict(ahead[0]), strict(words))
+        self.same(deed(*words, **more), result)
+        self.assertEqual(strict([words, more]), ahead)
         return result
