@@ -3,11 +3,15 @@
 from loggedruns.covers import LIMIT, are_pairs, is_ascending, is_cover
 from loggedruns.errors import NoItem, TooMany
 from loggedruns.fields import closing, distances, field_of, least_table, turned
-from loggedruns.sheets import check_end, check_sheet
+from loggedruns.sheets import check_sheet
 from loggedruns.spots import is_gap
 from loggedruns.words import is_between, is_tuple_of, is_whole
 
 MOST_FILLINGS = 200
+
+# The parts of a link that are None where no step is done, and where the log gets nothing.
+STEP = 0
+ENTRY = 1
 
 
 def least_run(field, table, left):
@@ -15,7 +19,7 @@ def least_run(field, table, left):
     pairs = [field.first()]
     run = []
     for number in reversed(range(left[field.first()])):
-        found = [(step, target) for pair in without_steps(table, pairs) for step, _, target in table[pair]
+        found = [(step, target) for pair in without(STEP, table, pairs) for step, _, target in table[pair]
                  if step is not None and left.get(target, -1) == number]
         # All these pairs have one stand, that of the run so far: its steps can be compared.
         least = min([step for step, _ in found])
@@ -24,15 +28,15 @@ def least_run(field, table, left):
     return tuple(run)
 
 
-def without_steps(table, pairs):
-    """These pairs and all to which passes lead from them."""
+def without(part, table, pairs):
+    """These pairs and all to which links lead from them in which this part is None."""
     queue = list(pairs)
     found = {}
     while queue:
         pair = queue.pop()
         if pair not in found:
             found[pair] = True
-            queue.extend([target for step, _, target in table[pair] if step is None])
+            queue.extend([link[2] for link in table[pair] if link[part] is None])
     return list(found)
 
 
@@ -120,7 +124,6 @@ def fillings(maker, sheet, copy, index, *, end=None):
     check_item(sheet, copy, index)
     if index == len(sheet[copy]) or not is_gap(sheet[copy][index]):
         raise NoItem(index)
-    check_end(end)
     table = useful(field_of(maker, sheet, end))
     found = {(): [pair for pair in table if pair[1][copy] == (index, 0)]}
     for _ in range(sheet[copy][index]):
@@ -135,20 +138,8 @@ def longer(table, found):
     """From the entries of a gap so far, with the pairs behind them, those with one entry more."""
     grown = {}
     for entries, pairs in found.items():
-        for pair in without_entries(table, pairs):
+        for pair in without(ENTRY, table, pairs):
             for _, entry, target in table[pair]:
                 if entry is not None:
                     grown.setdefault((*entries, entry), {})[target] = True
     return {entries: list(targets) for entries, targets in grown.items()}
-
-
-def without_entries(table, pairs):
-    """These pairs and all that are reached from them while the log gets nothing."""
-    queue = list(pairs)
-    found = {}
-    while queue:
-        pair = queue.pop()
-        if pair not in found:
-            found[pair] = True
-            queue.extend([target for _, entry, target in table[pair] if entry is None])
-    return list(found)

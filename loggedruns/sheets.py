@@ -18,7 +18,7 @@ def check_sheet(sheet):
 
 def check_end(end):
     """Raises BadEnd for any value that is none."""
-    if end is not None and not (isinstance(end, str) and end in ("over", "open")):
+    if end is not None and end not in ("over", "open"):
         raise BadEnd(end)
 
 

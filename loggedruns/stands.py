@@ -3,7 +3,6 @@
 from loggedruns.doing import step_done, steps_from
 from loggedruns.errors import BadRun, NoStep
 from loggedruns.forms import Forms
-from loggedruns.words import is_whole
 
 
 def first_stand(maker):
@@ -24,11 +23,7 @@ def steps(maker, stand):
 
 def is_among(value, found):
     """Whether any value is one of these steps: True is not 1, and a list no tuple."""
-    if not isinstance(value, tuple) or not 1 <= len(value) <= 3 or not isinstance(value[0], str):
-        return False
-    if len(value) > 1 and not is_whole(value[1]):
-        return False
-    if len(value) > 2 and value[2] is not None and not is_whole(value[2]):
+    if not isinstance(value, tuple) or any([isinstance(part, bool) for part in value]):
         return False
     return value in found
 

@@ -170,6 +170,21 @@ class TestShortest(Case):
             self.assertIs(self.shows((*self.heights[:k], [stand, spot, height], *self.heights[k + 1:])), False)
             self.assertIs(self.shows((*self.heights[:k], (stand, spot), *self.heights[k + 1:])), False)
 
+    def test_no_forms(self):
+        last, spot = (((),), (0,), (), ((),), 0, 0, False), ((2, 0),)
+        self.assertIs(self.shows(tuple(sorted([*self.heights, (last, spot, 9)]))), True)
+        for bad in ((last[:6] + (0,), spot, 9), ((*last[:5], False, False), spot, 9), ((*last[:5], 1, False), spot, 9),
+                    (last, ((2, False),), 9), (last, ((2, 1),), 9), (last, ((3, 0),), 9), (last, ((2, 0), (2, 0)), 9),
+                    ((((),), (2,), *last[2:]), spot, 9), ((((),), (False,), *last[2:]), spot, 9)):
+            self.assertIs(self.shows(tuple(sorted([*self.heights, bad]))), False)
+        for bad in ((None, spot, 9), (last, None, 9), (list(last), spot, 9), (last, list(spot), 9), (spot, last, 9)):
+            for k in range(len(self.heights) + 1):
+                self.assertIs(self.shows((*self.heights[:k], bad, *self.heights[k:])), False)
+        for k, (stand, way, height) in enumerate(self.heights):
+            same = ((*stand[:4], False, *stand[5:]), way, height)
+            self.assertEqual(same, self.heights[k])
+            self.assertIs(self.shows((*self.heights[:k], same, *self.heights[k + 1:])), False)
+
     def test_pass_is_no_greater(self):
         made, sheet = maker('hand h\n  log 1 u'), ((None, 1),)
         run, heights = shortest(made, sheet)

@@ -81,7 +81,9 @@ class TestForms(Case):
                     'else', 'catch', 'catch w', 'a: else', 'a: catch', 'if', 'if x = 4\n    stop', 'if x == 1\n    stop',
                     'if x <= 1\n    stop', 'if 1 = x\n    stop', 'if x = 1 1\n    stop', 'if x\n    stop',
                     'while x\n    stop', 'while x = x.odd\n    stop', 'a: try\n    stop\n  catch\n    stop',
-                    'try x\n    stop\n  catch\n    stop'):
+                    'try x\n    stop\n  catch\n    stop', 'take l.odd', 'ask x.odd', 'set x.odd 1', 'add x.some 1',
+                    'start h.some', 'call p.odd', 'fail w.odd', 'log 1 w.odd', 'if x.odd = 1\n    stop', 'take l.',
+                    'a.odd: stop'):
             self.told(BadProgram, 3, Program, body(row, 'stop'))
 
     def test_else_and_catch_by_their_words(self):
@@ -115,13 +117,14 @@ class TestHeads(Case):
         self.wrong(3, 'keep a 1', 'keep b 2', 'keep c 3', 'cell d 1', *self.end)
         for text in ('cell a 0', 'cell a 4', 'cell a 01', 'cell a', 'cell a 1 1', 'cell A 1', 'cell abcdefghi 1',
                      'cell  a 1', 'cell a 1 ', 'keep a 0', 'keep a 4', 'keep a', 'Cell a 1', 'cell a1 1', ' cell a 1',
-                     '  cell a 1', 'a: cell a 1', 'cell a -1', 'cell a x'):
+                     '  cell a 1', 'a: cell a 1', 'cell a.odd 1', 'cell a -1', 'cell a x'):
             self.wrong(0, text, *self.end)
         self.fine('cell abcdefgh 1', *self.end)
         self.fine('cell cell 1', 'keep keep 1', 'lock lock', 'hand hand', '  stop', 'part part', '  stop')
 
     def test_locks(self):
         self.fine('lock a', 'lock b', *self.end)
+        self.fine('lock abcdefgh', *self.end)
         self.wrong(2, 'lock a', 'lock b', 'lock c', *self.end)
         for text in ('lock', 'lock a b', 'lock 1', 'lock abcdefghi', 'lock a '):
             self.wrong(0, text, *self.end)
@@ -137,6 +140,7 @@ class TestHeads(Case):
 
     def test_hands_and_parts(self):
         self.fine('hand a', '  stop', 'hand b', '  stop', 'part c', '  stop', 'part d', '  stop')
+        self.fine('hand abcdefgh', '  call bcdefghi', 'part bcdefghi', '  fail cdefghij')
         self.wrong(4, 'hand a', '  stop', 'hand b', '  stop', 'hand c', '  stop')
         self.wrong(6, 'hand a', '  stop', 'part b', '  stop', 'part c', '  stop', 'part d', '  stop')
         self.wrong(0, 'part a', '  stop', 'hand b', '  stop')
