@@ -2,8 +2,6 @@
 
 from loggedruns.fields import field_of, least_table
 from loggedruns.forms import Forms
-from loggedruns.spots import is_spot
-from loggedruns.words import is_tuple_of
 
 LIMIT = 2000
 
@@ -21,22 +19,26 @@ def shows_cover(maker, sheet, value, *, end=None):
 
 def is_cover(field, value):
     """Whether any value is a cover of a field."""
-    if not are_pairs(field, value) or not is_ascending(value):
+    if not are_members(field, value) or not is_ascending(value):
         return False
-    members = {pair: True for pair in value}
-    if field.first() not in members:
-        return False
-    return all([target in members for pair in value for _, _, target in field.links(pair)])
+    return is_closed(field, {member: True for member in value}, [field.first()])
 
 
-def are_pairs(field, value):
-    """Whether any value is a tuple of pairs (stand, spot), by their forms."""
-    if not isinstance(value, tuple) or not all([is_tuple_of(pair, 2) for pair in value]):
+def are_members(field, value):
+    """Whether any value is a tuple of members of a field, by their forms."""
+    if not isinstance(value, tuple):
         return False
     forms = Forms(field.maker)
-    return all([forms.is_stand(pair[0]) and is_spot(field.sheet, pair[1]) for pair in value])
+    return all([field.is_member(forms, member) for member in value])
 
 
 def is_ascending(members):
     """Whether members of one form are ascending, none twice."""
     return all([members[k] < members[k + 1] for k in range(len(members) - 1)])
+
+
+def is_closed(field, members, starts):
+    """Whether a dict of members has the starts, and all to which links lead from its members."""
+    if not all([start in members for start in starts]):
+        return False
+    return all([link[-1] in members for member in members for link in field.links(member)])

@@ -5,27 +5,35 @@ from loggedruns.shown import entry_of, makes_entry
 
 MOST_CALLS = 2
 
+# The rows that give their cell a value.
+GIVERS = ("set", "add", "ask")
+
 
 def worth_of(row, cells):
     """The value that a row names: of a cell, or a number."""
     return row.number if row.source is None else cells[row.source]
 
 
-def put(scene, hand, row, worth):
-    """Gives the cell of a row a value that it may not be able to have."""
-    if 0 <= worth <= scene.maker.program.tops[row.target]:
+def worth_given(row, cells, value):
+    """What a set, add or ask would give its cell; value is what an ask gives."""
+    if row.kind == "ask":
+        return value
+    return cells[row.target] + row.number if row.kind == "add" else worth_of(row, cells)
+
+
+def can_have(program, cell, worth):
+    """Whether a cell can have a value."""
+    return 0 <= worth <= program.tops[cell]
+
+
+def do_give_worth(scene, hand, row, value):
+    """A set, add or ask: its cell gets a value, if it can have it."""
+    worth = worth_given(row, scene.cells, value)
+    if can_have(scene.maker.program, row.target, worth):
         scene.cells[row.target] = worth
         scene.go(hand, row.behind)
     else:
         scene.fault(hand, "range")
-
-
-def do_set(scene, hand, row):
-    put(scene, hand, row, worth_of(row, scene.cells))
-
-
-def do_add(scene, hand, row):
-    put(scene, hand, row, scene.cells[row.target] + row.number)
 
 
 def do_take(scene, hand, row):
@@ -84,10 +92,8 @@ def holds(row, cells):
     return here < there if row.sign == "<" else here > there
 
 
-# ask and log stand apart: one takes a value, the other one gives an entry.
+# Those of GIVERS and log stand apart: an ask takes a value, a log row gives an entry.
 DEEDS = {
-    "set": do_set,
-    "add": do_add,
     "take": do_take,
     "give": do_give,
     "start": do_start,
@@ -114,8 +120,8 @@ def do_row(scene, hand, value):
     row = scene.maker.program.rows[scene.hands[hand][-1]]
     if row.kind == "log":
         return do_log(scene, hand, row)
-    if row.kind == "ask":
-        put(scene, hand, row, value)
+    if row.kind in GIVERS:
+        do_give_worth(scene, hand, row, value)
     else:
         deed = DEEDS[row.kind]
         deed(scene, hand, row)

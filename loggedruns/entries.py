@@ -1,13 +1,12 @@
 """Entries and logs."""
 
 from loggedruns.shown import all_entries
-from loggedruns.stands import led_and_log
+from loggedruns.stands import trail_of
 
 
 def log_of(maker, run):
     """The entries that the log of a run gets, in sequence."""
-    _, log = led_and_log(maker, run)
-    return tuple(log)
+    return tuple(trail_of(maker, run).log(0))
 
 
 def entries(maker):

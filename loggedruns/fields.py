@@ -1,10 +1,13 @@
 """Where runs and the reading of a sheet lead together: pairs (stand, spot) and the links between them."""
 
+from loggedruns.deeds import line_done
 from loggedruns.doing import step_done, steps_from
 from loggedruns.errors import TooMany
 from loggedruns.sheets import check_end, check_sheet, ends_so
-from loggedruns.spots import first_spot, is_read, passes, taken
+from loggedruns.spots import first_spot, is_read, is_spot, passes, taken
 from loggedruns.stands import first_stand
+from loggedruns.ways import within
+from loggedruns.words import is_tuple_of
 
 
 class Field:
@@ -44,6 +47,10 @@ class Field:
         """Whether a run that has come to this pair fits as it is."""
         return is_read(self.sheet, pair[1]) and ends_so(self.maker, pair[0], self.end)
 
+    def is_member(self, forms, value):
+        """Whether any value is a pair by its form."""
+        return is_tuple_of(value, 2) and forms.is_stand(value[0]) and is_spot(self.sheet, value[1])
+
 
 def field_of(maker, sheet, end):
     """The field of a sheet and an end, which may be any values."""
@@ -52,23 +59,45 @@ def field_of(maker, sheet, end):
     return Field(maker, sheet, end)
 
 
+class Growth:
+    """A closed table that is being worked out, from the members that it must have at least."""
+
+    def __init__(self, field, starts):
+        self.field = field
+        self.queue = list(starts)
+        self.found = {member: True for member in self.queue}
+        # The links of each member that was grown.
+        self.table = {}
+
+    def is_grown(self):
+        """Whether all members are grown."""
+        return len(self.table) == len(self.queue)
+
+    def grow(self):
+        """Notes the links of the next member; returns it."""
+        member = self.queue[len(self.table)]
+        links = self.field.links(member)
+        self.table[member] = links
+        for link in links:
+            if link[-1] not in self.found:
+                self.found[link[-1]] = True
+                self.queue.append(link[-1])
+        return member
+
+
+def closed_table(field, starts, limit):
+    """The links of each member of the least closed table with these members; with None there is no limit."""
+    growth = Growth(field, starts)
+    while not growth.is_grown():
+        growth.grow()
+        if limit is not None and len(growth.queue) > limit:
+            raise TooMany(limit)
+    return growth.table
+
+
 def least_table(field, limit):
     """The links of each member of the least cover, as they are found."""
-    queue = [field.first()]
-    found = {queue[0]: True}
-    table = {}
-    at = 0
-    while at < len(queue):
-        pair = queue[at]
-        at += 1
-        table[pair] = field.links(pair)
-        for _, _, target in table[pair]:
-            if target not in found:
-                found[target] = True
-                queue.append(target)
-        if len(queue) > limit:
-            raise TooMany(limit)
-    return table
+    return closed_table(field, [field.first()], limit)
 
 
 def closing(field, table):
@@ -85,8 +114,18 @@ def turned(table):
     return found
 
 
-def distances(table, starts):
-    """How many steps each pair is from the nearest start, along the links; passes count nothing."""
+def useful(field, table):
+    """The part of a table from which a run that fits goes on: those members alone, and the links between them."""
+    return within(table, distances(turned(table), closing(field, table)))
+
+
+def counts(pair, step, line):
+    """Whether a link from a pair counts: as a step, or with a line as one that does the row there."""
+    return step is not None and (line is None or line_done(pair[0], step) == line)
+
+
+def distances(table, starts, line=None):
+    """How far each pair is from the nearest start, along the links: how many of them count."""
     found = {}
     layer, number = list(starts), 0
     while layer:
@@ -96,10 +135,10 @@ def distances(table, starts):
             if pair not in found:
                 found[pair] = number
                 for step, _, target in table[pair]:
-                    if step is None:
-                        layer.append(target)
-                    else:
+                    if counts(pair, step, line):
                         coming.append(target)
+                    else:
+                        layer.append(target)
         layer = coming
         number += 1
     return found

@@ -1,11 +1,12 @@
 """Runs that fit a sheet: the shortest one, the stands they come to, what gaps stand for."""
 
-from loggedruns.covers import LIMIT, are_pairs, is_ascending, is_cover
+from loggedruns.covers import LIMIT, is_cover
 from loggedruns.errors import NoItem, TooMany
-from loggedruns.fields import closing, distances, field_of, least_table, turned
+from loggedruns.fields import closing, distances, field_of, least_table, turned, useful
+from loggedruns.heights import are_least, told_heights
 from loggedruns.sheets import check_sheet
 from loggedruns.spots import is_gap
-from loggedruns.words import is_between, is_tuple_of, is_whole
+from loggedruns.words import is_between
 
 MOST_FILLINGS = 200
 
@@ -64,35 +65,12 @@ def shortest(maker, sheet, *, end=None):
     if not left:
         return None
     far = distances(table, [field.first()])
-    heights = tuple(sorted([(stand, spot, height) for (stand, spot), height in far.items()]))
-    return (least_run(field, table, left), heights)
+    return (least_run(field, table, left), told_heights(far))
 
 
 def shows_shortest(maker, sheet, length, value, *, end=None):
     """Whether any value is heights that show that no run that fits is shorter than length."""
-    field = field_of(maker, sheet, end)
-    heights = heights_of(field, value)
-    if heights is None or heights.get(field.first(), 1) > 0:
-        return False
-    for pair, height in heights.items():
-        for step, _, target in field.links(pair):
-            rise = 0 if step is None else 1
-            if target not in heights or heights[target] > height + rise:
-                return False
-    return all([heights[pair] >= length for pair in closing(field, heights)])
-
-
-def heights_of(field, value):
-    """The dict of heights that any value tells, None if it is no ascending tuple of them."""
-    if not isinstance(value, tuple) or not all([is_tuple_of(member, 3) for member in value]):
-        return None
-    if not all([is_whole(member[2]) for member in value]):
-        return None
-    pairs = tuple([member[:2] for member in value])
-    # Ascending pairs are ascending members, and none of them stands twice.
-    if not are_pairs(field, pairs) or not is_ascending(pairs):
-        return None
-    return {member[:2]: member[2] for member in value}
+    return are_least(field_of(maker, sheet, end), value, length, None)
 
 
 def check_item(sheet, copy, index):
@@ -103,19 +81,13 @@ def check_item(sheet, copy, index):
         raise NoItem(index)
 
 
-def useful(field):
-    """The members of the least cover from which a run that fits goes on, with their links to such."""
-    table = least_table(field, LIMIT)
-    left = distances(turned(table), closing(field, table))
-    return {pair: [link for link in table[pair] if link[2] in left] for pair in table if pair in left}
-
-
 def stands_at(maker, sheet, copy, index, *, end=None):
     """The stands that runs that fit have where the copy is read up to the index."""
     check_sheet(sheet)
     check_item(sheet, copy, index)
     field = field_of(maker, sheet, end)
-    return tuple(sorted({pair[0] for pair in useful(field) if pair[1][copy] == (index, 0)}))
+    table = useful(field, least_table(field, LIMIT))
+    return tuple(sorted({pair[0] for pair in table if pair[1][copy] == (index, 0)}))
 
 
 def fillings(maker, sheet, copy, index, *, end=None):
@@ -124,7 +96,8 @@ def fillings(maker, sheet, copy, index, *, end=None):
     check_item(sheet, copy, index)
     if index == len(sheet[copy]) or not is_gap(sheet[copy][index]):
         raise NoItem(index)
-    table = useful(field_of(maker, sheet, end))
+    field = field_of(maker, sheet, end)
+    table = useful(field, least_table(field, LIMIT))
     found = {(): [pair for pair in table if pair[1][copy] == (index, 0)]}
     for _ in range(sheet[copy][index]):
         found = longer(table, found)

@@ -5,13 +5,23 @@ from loggedruns.programs import Program
 from loggedruns.words import is_between
 
 
+def is_level(value):
+    """Whether any value is a level from which on a recorder can keep entries."""
+    return is_between(value, 1, 3)
+
+
+def is_every(value):
+    """Whether any value is a number by which a recorder can lose entries."""
+    return is_between(value, 0, 4) and value != 1
+
+
 class Recorder:
     """Keeps a log: from which level on, each so many an entry lost, with the names of hands or without."""
 
     def __init__(self, *, level=1, every=0, names=True):
-        if not is_between(level, 1, 3):
+        if not is_level(level):
             raise BadRecorder(level)
-        if not is_between(every, 0, 4) or every == 1:
+        if not is_every(every):
             raise BadRecorder(every)
         if not isinstance(names, bool):
             raise BadRecorder(names)

@@ -2,7 +2,7 @@
 
 from loggedruns.errors import BadEnd, BadSheet
 from loggedruns.spots import MOST_COPIES, first_spot, is_copy, is_read, passes, taken
-from loggedruns.stands import led_and_log, state
+from loggedruns.stands import state, trail_of
 
 
 def is_sheet(value):
@@ -39,13 +39,28 @@ def with_passes(sheet, spots):
     return list(found)
 
 
-def fits(maker, sheet, run, *, end=None):
-    """Whether a run fits a sheet."""
-    check_sheet(sheet)
-    stand, log = led_and_log(maker, run)
-    check_end(end)
-    spots = with_passes(sheet, [first_spot(sheet)])
+def reads(sheet, spot, log):
+    """Whether a log can be taken from a spot until all copies are read."""
+    return any([is_read(sheet, way) for way in spots_behind(sheet, [spot], log)])
+
+
+def spots_behind(sheet, spots, log):
+    """The spots to which the entries of a log lead from these, each once."""
+    spots = with_passes(sheet, spots)
     for entry in log:
         coming = [taken(sheet, spot, entry) for spot in spots]
         spots = with_passes(sheet, [spot for spot in coming if spot is not None])
-    return ends_so(maker, stand, end) and any([is_read(sheet, spot) for spot in spots])
+    return spots
+
+
+def is_fit(maker, sheet, stand, log, end):
+    """Whether a run with this stand behind it and this log fits."""
+    return ends_so(maker, stand, end) and reads(sheet, first_spot(sheet), log)
+
+
+def fits(maker, sheet, run, *, end=None):
+    """Whether a run fits a sheet."""
+    check_sheet(sheet)
+    trail = trail_of(maker, run)
+    check_end(end)
+    return is_fit(maker, sheet, trail.last(), trail.log(0), end)

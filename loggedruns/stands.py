@@ -3,6 +3,7 @@
 from loggedruns.doing import step_done, steps_from
 from loggedruns.errors import BadRun, NoStep
 from loggedruns.forms import Forms
+from loggedruns.trails import Trail
 
 
 def first_stand(maker):
@@ -40,24 +41,31 @@ def is_stand(maker, value):
     return Forms(maker).is_stand(value)
 
 
-def led_and_log(maker, run):
-    """The stand behind a run and the list of what the log gets by it."""
+def traced(maker, stand, run):
+    """The trail of any value that is a run from this stand on, None of other ones."""
     if not isinstance(run, tuple):
-        raise BadRun(run)
-    stand, log = first_stand(maker), []
+        return None
+    trail = Trail([stand], [])
     for step in run:
-        if not is_among(step, steps_from(maker, stand)):
-            raise BadRun(run)
-        stand, entry = step_done(maker, stand, step)
-        if entry is not None:
-            log.append(entry)
-    return (stand, log)
+        if not is_among(step, steps_from(maker, trail.last())):
+            return None
+        behind, entry = step_done(maker, trail.last(), step)
+        trail.nodes.append(behind)
+        trail.got.append(entry)
+    return trail
+
+
+def trail_of(maker, run):
+    """The trail of a run from the first stand on."""
+    trail = traced(maker, first_stand(maker), run)
+    if trail is None:
+        raise BadRun(run)
+    return trail
 
 
 def led(maker, run):
     """The stand behind a run."""
-    stand, _ = led_and_log(maker, run)
-    return stand
+    return trail_of(maker, run).last()
 
 
 def state(maker, stand):

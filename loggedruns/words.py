@@ -24,3 +24,10 @@ def is_name(value):
 def is_tuple_of(value, many):
     """Whether any value is a tuple with so many members."""
     return isinstance(value, tuple) and len(value) == many
+
+
+def is_same(value, other):
+    """Whether any value is just like another one built from tuples, integers, bools, strings and None."""
+    if isinstance(other, tuple):
+        return is_tuple_of(value, len(other)) and all([is_same(value[k], part) for k, part in enumerate(other)])
+    return isinstance(value, bool) == isinstance(other, bool) and not isinstance(value, tuple) and value == other

@@ -60,7 +60,7 @@ def strict(value):
 
 
 class Case(unittest.TestCase):
-    def told(self, error, value, deed, *words, **more):
+    def told(self, error, value, deed, /, *words, **more):
         """The deed raises just this error, which keeps just this value; what it was handed stays as it was."""
         ahead = strict([words, more])
         with self.assertRaises(error) as held:
@@ -69,10 +69,19 @@ class Case(unittest.TestCase):
         self.assertEqual(strict(held.exception.value), strict(value))
         self.assertEqual(strict([words, more]), ahead)
 
+    def told_in_sequence(self, deed, good, wrong):
+        """Each of these (name, value, error) is told by itself, and of several the first one."""
+        for k, (name, value, error) in enumerate(wrong):
+            self.told(error, value, deed, **{**good, name: value})
+            for other, worth, _ in wrong[k + 1:]:
+                if other != name:
+                    self.told(error, value, deed, **{**good, name: value, other: worth})
+            self.told(error, value, deed, **{**good, **{other: worth for other, worth, _ in wrong[k + 1:]}, name: value})
+
     def same(self, value, expected):
         self.assertEqual(strict(value), strict(expected))
 
-    def unchanged(self, deed, *words, **more):
+    def unchanged(self, deed, /, *words, **more):
         """What the deed returns, twice the same; what it was handed stays as it was."""
         ahead = strict([words, more])
         result = deed(*words, **more)

@@ -1,7 +1,13 @@
 """Random programs and sheets, from a seeded source."""
 
+import random
+
+from loggedruns.questions import is_question
+from tests import brute
 from tests.common import maker
 
+KINDS = ('did', 'ahead', 'asked', 'was', 'is', 'by', 'at', 'fell', 'spilt', 'ended')
+LASTING = ('did', 'ahead', 'asked', 'was', 'fell', 'spilt')
 CELLS = ('x', 'y')
 
 
@@ -94,3 +100,61 @@ def made(rng):
         inner = [line.split()[0] for line in text.split('\n') if line.startswith(' ')]
         if len([word for word in inner if word not in ('else', 'catch')]) <= 20:
             return maker(text, **recorder(rng))
+
+
+def labelled(rng, plain):
+    """The maker with labels at some rows."""
+    lines = plain.program.text.split('\n')
+    rows = [k for k, line in enumerate(lines) if line.startswith(' ') and line.split()[0] not in ('try', 'else', 'catch')]
+    for name, k in zip('abcdef', rng.sample(rows, min(len(rows), rng.randint(1, 6)))):
+        deep = len(lines[k]) - len(lines[k].lstrip())
+        lines[k] = lines[k][:deep] + name + ': ' + lines[k][deep:]
+    recorder = plain.recorder
+    return maker('\n'.join(lines), level=recorder.level, every=recorder.every, names=recorder.names)
+
+
+def fact(rng, program, kinds=KINDS):
+    while True:
+        one, other, cell = rng.choice(program.labels), rng.choice(program.labels), rng.choice(program.cells)
+        found = {'did': ('did', one, rng.randint(1, 3)), 'ahead': ('ahead', one, other),
+                 'asked': ('asked', one, rng.randint(0, 2)), 'was': ('was', cell, rng.randint(0, 2)),
+                 'is': ('is', cell, rng.randint(0, 2)), 'by': ('by', cell, rng.choice([None, one])),
+                 'at': ('at', rng.choice(program.hands), rng.choice([None, one])), 'fell': ('fell', rng.randint(1, 2)),
+                 'spilt': ('spilt', rng.choice('uvw'), rng.randint(1, 2)),
+                 'ended': ('ended', rng.choice(['done', 'fallen', 'stuck', 'open']))}[rng.choice(kinds)]
+        if is_question(program, found):
+            return found
+
+
+def question(rng, program, kinds=KINDS, deep=2):
+    kind = rng.random()
+    if deep == 0 or kind < 0.5:
+        return fact(rng, program, kinds)
+    if kind < 0.65 and kinds == KINDS:
+        return ('not', question(rng, program, kinds, deep - 1))
+    return (rng.choice(['and', 'or']), question(rng, program, kinds, deep - 1), question(rng, program, kinds, deep - 1))
+
+
+def looped(rng):
+    """A maker with labels, the rows of its first hand in a loop, which may have no end."""
+    while True:
+        plain = made(rng)
+        ahead, body = plain.program.text.split('hand a\n')
+        body, hand, behind = body.partition('\nhand') if '\nhand' in body else body.partition('\npart')
+        inner = '\n'.join(['  ' + line for line in body.split('\n')])
+        text = f'{ahead}hand a\n  while x {rng.choice(["= 0", "< 2", "= x"])}\n{inner}{hand}{behind}'
+        if len([line for line in text.split('\n') if line.startswith(' ') and line.split()[0] not in ('else', 'catch')]) <= 20:
+            recorder = plain.recorder
+            return labelled(rng, maker(text, level=recorder.level, every=recorder.every, names=recorder.names))
+
+
+def makers(seed, many, most=250):
+    """So many times a maker with labels and few runs, and these."""
+    rng = random.Random(seed)
+    count = 0
+    while count < many:
+        found = labelled(rng, made(rng))
+        runs = brute.all_runs(found, most)
+        if runs is not None:
+            count += 1
+            yield rng, found, runs

@@ -301,6 +301,8 @@ class TestInterface(unittest.TestCase):
         'stands': 'first_stand steps after is_stand led state', 'entries': 'log_of entries', 'sheets': 'is_sheet fits',
         'covers': 'cover shows_cover',
         'fitting': 'fitting shows_none shortest shows_shortest stands_at fillings',
+        'often': 'fewest most shows_fewest shows_most shows_endless', 'questions': 'is_question facts judge',
+        'answers': 'answer shows_answer', 'grounds': 'grounds shows_grounds', 'cases': 'tests shows_tests',
     }
 
     def test_defined_there(self):
@@ -316,7 +318,13 @@ class TestInterface(unittest.TestCase):
             'fits': 'maker sheet run *end', 'cover': 'maker sheet *end', 'shows_cover': 'maker sheet value *end',
             'fitting': 'maker sheet *end', 'shows_none': 'maker sheet value *end', 'shortest': 'maker sheet *end',
             'shows_shortest': 'maker sheet length value *end', 'stands_at': 'maker sheet copy index *end',
-            'fillings': 'maker sheet copy index *end',
+            'fillings': 'maker sheet copy index *end', 'fewest': 'maker sheet label *end', 'most': 'maker sheet label *end',
+            'shows_fewest': 'maker sheet label number value *end', 'shows_most': 'maker sheet label number value *end',
+            'shows_endless': 'maker sheet label value *end', 'is_question': 'program value', 'facts': 'question',
+            'judge': 'maker question run', 'answer': 'maker sheet question *end',
+            'shows_answer': 'maker sheet question value *end', 'grounds': 'maker sheet question *end',
+            'shows_grounds': 'maker sheet question value *end', 'tests': 'maker sheet question others *end',
+            'shows_tests': 'maker sheet question others value *end',
         }
         found = {node.name: node.args for module in self.names for node in TREES[module].body
                  if isinstance(node, ast.FunctionDef)}
