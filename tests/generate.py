@@ -148,12 +148,29 @@ def looped(rng):
             return labelled(rng, maker(text, level=recorder.level, every=recorder.every, names=recorder.names))
 
 
-def makers(seed, many, most=250):
+def talker(rng, loop=False):
+    """A maker of one hand with labels that asks, and tells of it later, perhaps; the last rows perhaps in a loop."""
+    lines = ['cell x 1', 'cell y 1', *rng.choice([[], [], ['box 1']]), 'hand a']
+    many = rng.randint(3, 6)
+    ring = rng.randint(0, many - 1) if loop else many
+    for k in range(many):
+        deep = '  ' if k < ring else '    '
+        if k == ring:
+            lines.append(f'  while {rng.choice(["x = x", "x = x", "y = 0"])}')
+        if rng.random() < 0.3:
+            lines.append(f'{deep}if {rng.choice("xy")} = {rng.randint(0, 1)}')
+            deep += '  '
+        lines.append(deep + rng.choice(['ask x', 'ask x', 'ask y', 'log 1 u', 'log 1 u', 'log 1 v x', 'log 2 w y', 'set x y',
+                                        *([] if loop else ['fail e', 'log 1 u'])]))
+    return labelled(rng, maker('\n'.join(lines), **recorder(rng)))
+
+
+def makers(seed, many, most=250, kind=None):
     """So many times a maker with labels and few runs, and these."""
     rng = random.Random(seed)
     count = 0
     while count < many:
-        found = labelled(rng, made(rng))
+        found = kind(rng) if kind else labelled(rng, made(rng))
         runs = brute.all_runs(found, most)
         if runs is not None:
             count += 1

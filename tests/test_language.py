@@ -303,6 +303,8 @@ class TestInterface(unittest.TestCase):
         'fitting': 'fitting shows_none shortest shows_shortest stands_at fillings',
         'often': 'fewest most shows_fewest shows_most shows_endless', 'questions': 'is_question facts judge',
         'answers': 'answer shows_answer', 'grounds': 'grounds shows_grounds', 'cases': 'tests shows_tests',
+        'lateness': 'late shows_late', 'settling': 'settled shows_settled', 'changes': 'changed',
+        'choices': 'cheapest shows_cheapest',
     }
 
     def test_defined_there(self):
@@ -324,7 +326,10 @@ class TestInterface(unittest.TestCase):
             'judge': 'maker question run', 'answer': 'maker sheet question *end',
             'shows_answer': 'maker sheet question value *end', 'grounds': 'maker sheet question *end',
             'shows_grounds': 'maker sheet question value *end', 'tests': 'maker sheet question others *end',
-            'shows_tests': 'maker sheet question others value *end',
+            'shows_tests': 'maker sheet question others value *end', 'late': 'maker question *sheet',
+            'shows_late': 'maker question value *sheet', 'settled': 'maker question',
+            'shows_settled': 'maker question value', 'changed': 'maker changes', 'cheapest': 'maker question offers',
+            'shows_cheapest': 'maker question offers value',
         }
         found = {node.name: node.args for module in self.names for node in TREES[module].body
                  if isinstance(node, ast.FunctionDef)}
