@@ -3,8 +3,10 @@
 from loggedruns.answers import TRUTHS, answer, shows_sure
 from loggedruns.covers import is_ascending
 from loggedruns.errors import NoGrounds
-from loggedruns.minded import MindedField, minded_field, sure_table
+from loggedruns.fields import least_table
+from loggedruns.minded import MindedField, is_sure, minded_field
 from loggedruns.recalls import Recall
+from loggedruns.sheets import brief
 from loggedruns.walks import Walk
 from loggedruns.words import is_tuple_of, is_whole
 
@@ -31,20 +33,25 @@ def left_field(walk, sheet, end, left):
     return MindedField(walk, left_sheet(sheet, left), end if (len(sheet), 0) in left else None)
 
 
+def is_enough(field, truth):
+    """Whether what is left is enough for this answer."""
+    return is_sure(MindedField(field.walk, brief(field.sheet), field.end), truth)
+
+
 def grounds(maker, sheet, question, *, end=None):
     """(left, word, table): places of which none can be left out, and the answer for what is there."""
-    word, *shown = answer(maker, sheet, question, end=end)
+    word = answer(maker, sheet, question, end=end)[0]
     if word not in TRUTHS:
         raise NoGrounds(word)
-    table = shown[0]
     walk = Walk(maker, Recall(maker, question))
     left = all_places(sheet, end)
     for place in all_places(sheet, end):
         fewer = [other for other in left if other != place]
-        found = sure_table(left_field(walk, sheet, end, fewer), TRUTHS[word])
-        if found is not None:
-            left, table = fewer, tuple(sorted(found))
-    return (tuple(left), word, table)
+        if is_enough(left_field(walk, sheet, end, fewer), TRUTHS[word]):
+            left = fewer
+    # The limit is of the sheet as it came alone.
+    table = least_table(left_field(walk, sheet, end, left), None)
+    return (tuple(left), word, tuple(sorted(table)))
 
 
 def shows_grounds(maker, sheet, question, value, *, end=None):

@@ -63,11 +63,11 @@ def minded_field(maker, sheet, question, end):
     return MindedField(Walk(maker, Recall(maker, question)), sheet, end)
 
 
-def sure_table(field, truth):
-    """The least cover with memories, with links; None if a member closes of which this is not what is true."""
+def is_sure(field, truth):
+    """Whether this is what is true of all runs that fit."""
     growth = Growth(field, [field.first()])
     while not growth.is_grown():
         member = growth.grow()
         if field.closes(member) and field.truth(member) != truth:
-            return None
-    return growth.table
+            return False
+    return True

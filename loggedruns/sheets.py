@@ -22,6 +22,13 @@ def check_end(end):
         raise BadEnd(end)
 
 
+def brief(sheet):
+    """A sheet that just the same runs fit, with fewer gaps None: so there are far fewer spots."""
+    merged = [tuple([copy[k] for k in range(len(copy)) if k == 0 or copy[k] is not None or copy[k - 1] is not None])
+              for copy in sheet]
+    return tuple([copy for copy in merged if copy != (None,)]) or ((None,),)
+
+
 def ends_so(maker, stand, end):
     """Whether a run with this last stand is as the end asks."""
     return end is None or (state(maker, stand) == "open") == (end == "open")

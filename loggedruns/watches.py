@@ -6,7 +6,7 @@ from loggedruns.errors import NoRuns, TooMany
 from loggedruns.fields import closed_table, closing, least_table
 from loggedruns.minded import MindedField
 from loggedruns.recalls import Recall
-from loggedruns.sheets import is_fit
+from loggedruns.sheets import brief, is_fit
 from loggedruns.walks import Walk, followed
 from loggedruns.ways import ringed, searched
 from loggedruns.words import is_tuple_of
@@ -28,7 +28,7 @@ class Watch:
 
     def note_fitting(self):
         """Notes the nodes that runs that fit have at their ends."""
-        field = MindedField(self.walk, self.sheet, None)
+        field = MindedField(self.walk, brief(self.sheet), None)
         table = least_table(field, None)
         found = searched(table, [field.first()])
         for member in closing(field, table):

@@ -30,4 +30,4 @@ def is_same(value, other):
     """Whether any value is just like another one built from tuples, integers, bools, strings and None."""
     if isinstance(other, tuple):
         return is_tuple_of(value, len(other)) and all([is_same(value[k], part) for k, part in enumerate(other)])
-    return isinstance(value, bool) == isinstance(other, bool) and not isinstance(value, tuple) and value == other
+    return isinstance(value, bool) == isinstance(other, bool) and value == other

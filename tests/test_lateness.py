@@ -328,6 +328,13 @@ class TestSheets(LateCase):
         self.same(ahead[0], do(0, 1))
         self.same(len(further), 1)
 
+    def test_sheets_that_tell_the_same(self):
+        made = maker('cell x 1\nhand h\n  a: ask x\n  log 1 u\n  log 1 v\n  log 1 w x')
+        for sheet in (((U,),), ((None, U),), ((U,), (None, None)), ((None,) * 3, (1,)), ((None, U, None), (1,))):
+            told = late(made, ASKED, sheet=sheet)
+            self.same(self.late(made, ASKED, sheet), ('held', 2))
+            self.same(told[2], late(made, ASKED, sheet=((U,),))[2])
+
     def test_no_runs(self):
         made = maker(TINY)
         for sheet in (((HOT,),), ((3,),), ((GO, GO),), ((None,), (HOT, None))):
@@ -515,6 +522,48 @@ class TestShows(LateCase):
         for many, first, fine in ((2, 1, True), (3, 2, True), (3, 1, False), (4, 2, False), (4, 1, True), (2, 2, False)):
             self.assertIs(shows_late(made, ASKED, ('silent', going[many], first, ())), fine)
 
+    def test_silent_with_entries_in_the_round(self):
+        made = maker(EVER)
+        nodes = plainlate.Nodes(made, ASKED)
+        one, other = (do(0, 1), do(0), do(0)), (do(0, 0), do(0), do(0))
+        self.same([nodes.trail(one)[0][1] == nodes.trail(one)[0][3], nodes.is_silent(one, 1, other)], [True, False])
+        for first in range(4):
+            self.assertIs(shows_late(made, ASKED, ('silent', one, first, other)), False)
+
+    def test_silent_beside_a_run_that_is_over(self):
+        made = maker('cell x 1\nhand h\n  a: ask x\n  while x > 0\n    set x 1\n  c: flush')
+        one, other = (do(0, 1), do(0), do(0)), (do(0, 0), do(0))
+        self.assertIs(shows_late(made, ASKED, ('silent', one, 1, other)), True)
+        self.assertIs(shows_late(made, ASKED, ('silent', one, 1, (*other, do(0)))), False)
+        self.same(self.late(made, ('and', ASKED, ('did', 'a', 1))), 'silent')
+
+    def test_ever_behind_the_last_entry(self):
+        """A number of steps is none from the end: -1 is no number of steps."""
+        made = maker(EVER)
+        nodes = plainlate.Nodes(made, ASKED)
+        runs = [(do(0, x), *[do(0)] * many) for x in (0, 1) for many in range(6)]
+        shown = 0
+        for one in runs:
+            for other in runs:
+                for first in range(-3, 7):
+                    for start in range(-3, 7):
+                        inside = 0 <= first <= len(one) and 0 <= start <= len(other)
+                        fine = inside and nodes.is_ever(one, first, other, start)
+                        shown += fine
+                        self.assertIs(shows_late(made, ASKED, ('ever', one, first, other, start)), fine)
+        self.assertGreater(shown, 5)
+
+    def test_the_first_entry_counts_for_the_sheet(self):
+        made = maker('cell x 1\nhand h\n  log 1 u\n  a: ask x\n  log 1 v')
+        one, other = [((do(0), do(0, x)), (do(0),)) for x in (1, 0)]
+        self.assertIs(shows_late(made, ASKED, ('silent', one, 1, other), sheet=((U,),)), True)
+        self.assertIs(shows_late(made, ASKED, ('silent', one, 1, other), sheet=((None,),)), True)
+        for sheet in (((),), ((2,),), ((('h', 'v', ()),),)):
+            if sheet != ((('h', 'v', ()),),):
+                self.assertIs(shows_late(made, ASKED, ('silent', one, 1, other), sheet=sheet), False)
+            else:
+                self.told(NoRuns, None, shows_late, made, ASKED, ('silent', one, 1, other), sheet=sheet)
+
     def test_ever(self):
         made = maker('cell x 1\nhand h\n  a: ask x\n  while x = x\n    log 1 u\n    log 1 v')
         nodes = plainlate.Nodes(made, ASKED)
@@ -620,7 +669,8 @@ class TestWrongValues(Case):
     def test_questions(self):
         made = maker(TINY)
         for value in (*ODD, ('is', 'x', 0), ('by', 'x', 'a'), ('at', 'h', None), ('ended', 'done'), ('not', ASKED),
-                      ('and', ASKED, ('not', ASKED)), ('or', ASKED, ('is', 'x', 0)), ('and', ASKED, ('or', ASKED, ('ended', 'open'))),
+                      ('and', ASKED, ('not', ASKED)), ('or', ASKED, ('is', 'x', 0)), ('or', ('is', 'x', 0), ASKED),
+                      ('and', ('not', ASKED), ASKED), ('or', ASKED, ('by', 'x', None), ASKED), ('and', ASKED, ('or', ASKED, ('ended', 'open'))),
                       ('asked', 'a', 2), ('not', ('not', ASKED))):
             self.told(BadQuestion, value, late, made, value)
             self.told(BadQuestion, value, late, made, value, sheet=1)

@@ -82,6 +82,7 @@ class TestIsQuestion(Case):
         self.are(False, ('not',), ('not', did, fell), ('and',), ('and', did), ('or', did), ('or',), ('xor', did, fell),
                  ('and', did, ('did', 'i', 1)), ('or', did, None), ('and', [did, fell]), ('and', (did, fell)), ['and', did, fell],
                  ('and', did, list(fell)), ('not', [fell]), ('not', ()), ('not', None), ('and', did, ()), (did, fell), (did,),
+                 ('and', did, did, None), ('or', did, ('did', 'i', 1), did), ('and', None, did, did, did), ('or', did, did, ()),
                  ('or', did, ('and', did)), ('or', did, ('not', did, did)), (('not',), did), (None, did), ([], did))
 
     def test_at_most_four_facts(self):

@@ -7,7 +7,7 @@ from loggedruns.covers import cover, shows_cover
 from loggedruns.entries import entries, log_of
 from loggedruns.errors import TooMany
 from loggedruns.fitting import fillings, fitting, shortest, shows_none, shows_shortest, stands_at
-from loggedruns.sheets import fits, is_sheet
+from loggedruns.sheets import brief, fits, is_sheet
 from loggedruns.stands import is_stand, led
 from tests import brute, generate
 from tests.common import Case
@@ -49,6 +49,22 @@ class TestRandom(Case):
                 read = bool(brute.ways(sheet, got))
                 for end in ENDS:
                     self.assertIs(fits(made, sheet, run, end=end), read and brute.ends(made, stands[-1], end))
+
+    def test_fewer_gaps(self):
+        """The sheet by which grounds and lateness are found out has just the same runs that fit."""
+        less = 0
+        for rng, made, runs, sheet in self.cases(9, 80):
+            sheet = tuple([tuple([item for one in copy for item in [one, *[None] * rng.choice([0, 0, 1, 2])]][:12])
+                           for copy in sheet])
+            sheet = rng.choice([sheet, (*sheet, (None,) * rng.randint(0, 3))[:2], (((None,) * 4), *sheet)[:2]])
+            short = brief(sheet)
+            self.assertTrue(is_sheet(short), short)
+            less += short != sheet
+            for copy in short:
+                self.assertFalse([k for k in range(1, len(copy)) if copy[k] is None and copy[k - 1] is None])
+            for run, _, _ in runs:
+                self.assertIs(fits(made, short, run), fits(made, sheet, run))
+        self.assertGreater(less, 50)
 
     def test_fitting(self):
         ran = 0
