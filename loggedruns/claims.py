@@ -155,10 +155,14 @@ def is_lasting(question):
 
 
 def holds(question, truths):
-    """Whether a question is true; truths is a dict of those of its facts."""
+    """Whether a question is true; truths are those of its facts, in sequence: a fact may stand in it twice."""
     if question[0] in LENGTHS:
-        return truths[question]
-    parts = [holds(part, truths) for part in question[1:]]
+        return truths[0]
+    parts, at = [], 0
+    for part in question[1:]:
+        many = len(facts_in(part))
+        parts.append(holds(part, truths[at:at + many]))
+        at += many
     if question[0] == "not":
         return not parts[0]
     return all(parts) if question[0] == "and" else any(parts)

@@ -75,7 +75,7 @@ def do_stop(scene, hand, row):
 
 def do_choice(scene, hand, row):
     """An if or a while."""
-    scene.go(hand, row.inside if holds(row, scene.cells) else row.beside)
+    scene.go(hand, row.inside if holds(row, scene.cells) else row.aside)
 
 
 def do_nothing(scene, hand, row):

@@ -97,8 +97,7 @@ class Recall:
     def __init__(self, maker, question):
         self.maker = maker
         self.question = question
-        self.facts = facts_in(question)
-        self.notes = [noted(maker.program, fact) for fact in self.facts]
+        self.notes = [noted(maker.program, fact) for fact in facts_in(question)]
 
     def first(self):
         """The memory of the empty run."""
@@ -116,8 +115,7 @@ class Recall:
 
     def truth(self, stand, memory):
         """Whether the question is true of runs with this stand and memory."""
-        truths = [self.is_so(note, mark, stand) for note, mark in zip(self.notes, memory)]
-        return holds(self.question, {fact: truth for fact, truth in zip(self.facts, truths)})
+        return holds(self.question, [self.is_so(note, mark, stand) for note, mark in zip(self.notes, memory)])
 
     def is_so(self, note, mark, stand):
         """Whether a fact is true."""

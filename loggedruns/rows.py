@@ -30,7 +30,7 @@ class Row:
 
         self.behind = None
         self.inside = None
-        self.beside = None
+        self.aside = None
         self.nets = ()
         self.target = None
         self.source = None
@@ -84,7 +84,7 @@ def link(row):
     row.nets = nets_of(row)
     if row.main is not None:
         row.inside = entrance(row.main)
-        row.beside = row.behind if row.other is None else entrance(row.other)
+        row.aside = row.behind if row.other is None else entrance(row.other)
 
 
 def resolve(row, program):
