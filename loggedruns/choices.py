@@ -16,11 +16,16 @@ def are_offers(program, value):
     return are_changes(program, tuple([change for change, _ in value]))
 
 
+def check_offers(program, offers):
+    """Raises BadOffers for any value that is none."""
+    if not are_offers(program, offers):
+        raise BadOffers(offers)
+
+
 def offered(maker, question, offers):
     """All choices of offered changes, the cheapest first; question and offers may be any values."""
     check_question(maker.program, question)
-    if not are_offers(maker.program, offers):
-        raise BadOffers(offers)
+    check_offers(maker.program, offers)
     return choices([change for change, _ in offers], [price for _, price in offers])
 
 

@@ -105,6 +105,22 @@ def closing(field, table):
     return [pair for pair in table if field.closes(pair)]
 
 
+def leading(field, table):
+    """The members of a table from which links lead to one that closes, in a dict."""
+    ahead = {member: [] for member in table}
+    for member, links in table.items():
+        for link in links:
+            ahead[link[-1]].append(member)
+    queue = closing(field, table)
+    found = {}
+    while queue:
+        member = queue.pop()
+        if member not in found:
+            found[member] = True
+            queue.extend(ahead[member])
+    return found
+
+
 def turned(table):
     """The links of a table the other way round, each as (step, entry, pair)."""
     found = {pair: [] for pair in table}
@@ -116,7 +132,7 @@ def turned(table):
 
 def useful(field, table):
     """The part of a table from which a run that fits goes on: those members alone, and the links between them."""
-    return within(table, distances(turned(table), closing(field, table)))
+    return within(table, leading(field, table))
 
 
 def counts(pair, step, line):

@@ -73,6 +73,11 @@ class Forms:
         return all([self.is_entry(hand, entry) for entry in value])
 
     def is_entry(self, hand, value):
+        """Whether any value is an entry that the hand with this number can make."""
+        return self.is_made(value) and value[0] == hand_name(self.maker, hand)
+
+    def is_made(self, value):
+        """Whether any value is an entry that the maker can make."""
         if not is_tuple_of(value, 3):
             return False
         name, word, values = value
@@ -82,7 +87,7 @@ class Forms:
             return False
         if not all([is_whole(worth) for worth in values]):
             return False
-        return name == hand_name(self.maker, hand) and value in self.entries
+        return value in self.entries
 
     def are_numbers(self, count, falls):
         """Whether two values are a count and how often it began anew."""

@@ -11,11 +11,16 @@ from loggedruns.ways import heavy_ring, highest, ring, searched, way_to, within
 from loggedruns.words import is_between, is_tuple_of, is_whole
 
 
-def watch_of(maker, question, sheet):
-    """The watch for a lasting question, with or without a sheet, which may be any values."""
-    check_question(maker.program, question)
+def check_lasting(program, question):
+    """Raises BadQuestion for any value that is no lasting question."""
+    check_question(program, question)
     if not is_lasting(question):
         raise BadQuestion(question)
+
+
+def watch_of(maker, question, sheet):
+    """The watch for a lasting question, with or without a sheet, which may be any values."""
+    check_lasting(maker.program, question)
     if sheet is not None:
         check_sheet(sheet)
     return Watch(maker, question, sheet)

@@ -16,9 +16,14 @@ def is_price(value):
     return is_between(value, 1, MOST_PRICE)
 
 
-def choices(things, prices):
-    """All choices of ascending things, as tuples, the cheapest first, of those as dear the least one first."""
+def priced(things, prices):
+    """All choices of ascending things, as (price, tuple), ascending."""
     found = [(0, ())]
     for thing, price in zip(things, prices):
         found.extend([(cost + price, (*chosen, thing)) for cost, chosen in list(found)])
-    return [chosen for _, chosen in sorted(found)]
+    return sorted(found)
+
+
+def choices(things, prices):
+    """All choices of ascending things, as tuples, the cheapest first, of those as dear the least one first."""
+    return [chosen for _, chosen in priced(things, prices)]

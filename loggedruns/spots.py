@@ -14,6 +14,11 @@ def is_gap(item):
     return is_whole(item)
 
 
+def is_entry_read(item):
+    """Whether an item is an entry as read."""
+    return isinstance(item, tuple)
+
+
 def is_item(value):
     """Whether any value is an item."""
     if value is None or is_between(value, 1, MOST_GAP):

@@ -2,6 +2,7 @@
 
 from loggedruns.deeds import Deed
 from loggedruns.doing import step_done, steps_from
+from loggedruns.recalls import Recalls
 from loggedruns.stands import first_stand, traced
 from loggedruns.trails import Trail
 
@@ -42,6 +43,11 @@ class Walk:
         """Whether the question is true of runs with this node."""
         stand, memory = node
         return self.recall.truth(stand, memory)
+
+
+def bare_walk(maker):
+    """A walk that remembers nothing."""
+    return Walk(maker, Recalls(maker, []))
 
 
 def followed(walk, node, run):

@@ -88,3 +88,39 @@ class Case(unittest.TestCase):
         self.same(deed(*words, **more), result)
         self.assertEqual(strict([words, more]), ahead)
         return result
+
+
+def leaves(value):
+    """What may stand in the place of a value that is no tuple."""
+    if isinstance(value, bool):
+        return [not value, int(value), None]
+    if isinstance(value, int):
+        return [value + 1, value - 1, value == 1, None]
+    return [None, 'none', 'always', 'u', 0] if isinstance(value, str) else [0, False, ()]
+
+
+def near(value, rng, many):
+    """So many values that differ from a tuple at one place, deep within."""
+    return [nearby(value, rng) for _ in range(many)]
+
+
+def nearby(value, rng):
+    if not isinstance(value, tuple):
+        return rng.choice(leaves(value))
+    kind = rng.random()
+    if value and kind < 0.7:
+        at = rng.randrange(len(value))
+        return (*value[:at], nearby(value[at], rng), *value[at + 1:])
+    at = rng.randint(0, len(value))
+    if kind < 0.78:
+        return list(value)
+    if kind < 0.86 and value:
+        return value[:at] + value[at + 1:]
+    if kind < 0.93 and value:
+        return value[:at] + value[at - 1:] if at else value[:1] + value
+    if len(value) > 1:
+        one, other = rng.sample(range(len(value)), 2)
+        found = list(value)
+        found[one], found[other] = found[other], found[one]
+        return tuple(found)
+    return (*value, 0)

@@ -165,6 +165,20 @@ def talker(rng, loop=False):
     return labelled(rng, maker('\n'.join(lines), **recorder(rng)))
 
 
+def chatty(rng):
+    """A maker of one hand with labels that writes much, round and round, perhaps with a box."""
+    lines = ['cell x 2', 'cell y 1', *rng.choice([[], [], ['box 1']]), 'hand a', '  while x < 2']
+    for _ in range(rng.randint(3, 6)):
+        deep = '    '
+        if rng.random() < 0.4:
+            lines.append(f'    if {rng.choice("xy")} {rng.choice("=<")} {rng.randint(1, 2)}')
+            deep += '  '
+        lines.append(deep + rng.choice(['ask x', 'ask y', 'log 1 u', 'log 1 v y', 'log 1 u x.odd', 'log 2 w', 'set y 0',
+                                        'set x y']))
+    lines.append(rng.choice(['  log 1 u', '  log 1 v y', '  stop']))
+    return labelled(rng, maker('\n'.join(lines), level=1, every=rng.choice([0, 0, 0, 2]), names=rng.random() < 0.7))
+
+
 def makers(seed, many, most=250, kind=None):
     """So many times a maker with labels and few runs, and these."""
     rng = random.Random(seed)

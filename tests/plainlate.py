@@ -38,17 +38,15 @@ def is_so(made, fact, mark, stand):
 
 
 def is_true(made, question, node):
-    """Whether a question is true of runs with this (stand, memory)."""
-    found = {}
-    for fact, mark in zip(plain.facts(question), node[1]):
-        found[fact] = is_so(made, fact, mark, node[0])
+    """Whether a question is true of runs with this (stand, memory); a fact may stand in it twice."""
+    truths = [is_so(made, fact, mark, node[0]) for fact, mark in zip(plain.facts(question), node[1])]
 
     def holds(part):
         if part[0] == 'not':
             return not holds(part[1])
         if part[0] in ('and', 'or'):
             return (all if part[0] == 'and' else any)([holds(one) for one in part[1:]])
-        return found[part]
+        return truths.pop(0)
 
     return holds(question)
 

@@ -304,7 +304,8 @@ class TestInterface(unittest.TestCase):
         'often': 'fewest most shows_fewest shows_most shows_endless', 'questions': 'is_question facts judge',
         'answers': 'answer shows_answer', 'grounds': 'grounds shows_grounds', 'cases': 'tests shows_tests',
         'lateness': 'late shows_late', 'settling': 'settled shows_settled', 'changes': 'changed',
-        'choices': 'cheapest shows_cheapest',
+        'choices': 'cheapest shows_cheapest', 'front': 'front shows_front', 'watchers': 'watcher shows_watcher',
+        'crowds': 'woven fits_woven whose why shows_why answer_of shows_answer_of', 'sames': 'same_logs shows_same',
     }
 
     def test_defined_there(self):
@@ -329,7 +330,13 @@ class TestInterface(unittest.TestCase):
             'shows_tests': 'maker sheet question others value *end', 'late': 'maker question *sheet',
             'shows_late': 'maker question value *sheet', 'settled': 'maker question',
             'shows_settled': 'maker question value', 'changed': 'maker changes', 'cheapest': 'maker question offers',
-            'shows_cheapest': 'maker question offers value',
+            'shows_cheapest': 'maker question offers value', 'front': 'maker question offers',
+            'shows_front': 'maker question offers value', 'watcher': 'maker question',
+            'shows_watcher': 'maker question value', 'woven': 'crowd sheet *end', 'fits_woven': 'crowd sheet value *end',
+            'whose': 'crowd sheet copy index *end', 'why': 'crowd sheet copy index number *end',
+            'shows_why': 'crowd sheet copy index number value *end', 'answer_of': 'crowd sheet number question *end',
+            'shows_answer_of': 'crowd sheet number question value *end', 'same_logs': 'one other',
+            'shows_same': 'one other value',
         }
         found = {node.name: node.args for module in self.names for node in TREES[module].body
                  if isinstance(node, ast.FunctionDef)}
