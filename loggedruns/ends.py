@@ -24,7 +24,7 @@ class Ends:
                 queue.extend([there for _, entry, there in self.alikes.moves(one) if entry is None])
         return tuple(sorted(found))
 
-    def behind(self, numbers):
+    def after_entries(self, numbers):
         """For each entry that the log can get from a set, ascending, the set behind it."""
         found = {}
         for one in numbers:
@@ -37,7 +37,7 @@ class Ends:
         """Whether some run that ends in this set can do no further step."""
         return any([self.alikes.is_over(one) for one in numbers])
 
-    def word(self, numbers):
+    def word_of(self, numbers):
         """Of how many runs that end in this set the question is true."""
         truths = [self.alikes.is_true(one) for one in numbers]
         if all(truths):
@@ -48,4 +48,4 @@ class Ends:
 
     def links(self, numbers):
         """Where a set leads, each as (entry, set), ascending by entries."""
-        return list(self.behind(numbers).items())
+        return list(self.after_entries(numbers).items())

@@ -5,8 +5,10 @@ from loggedruns.claims import check_question, is_lasting
 from loggedruns.covers import is_ascending, is_closed
 from loggedruns.errors import BadQuestion
 from loggedruns.fields import closed_table
+from loggedruns.recalls import Recall
 from loggedruns.sheets import check_sheet
-from loggedruns.watches import Aged, Watch
+from loggedruns.walks import Walk
+from loggedruns.watches import Aged, Fitting, Watch
 from loggedruns.ways import heavy_ring, highest, ring, searched, way_to, within
 from loggedruns.words import is_between, is_tuple_of, is_whole
 
@@ -23,7 +25,8 @@ def watch_of(maker, question, sheet):
     check_lasting(maker.program, question)
     if sheet is not None:
         check_sheet(sheet)
-    return Watch(maker, question, sheet)
+    walk = Walk(maker, Recall(maker, question))
+    return Watch(walk, None if sheet is None else Fitting(walk, sheet))
 
 
 def is_apart(watch, one, other):
@@ -38,7 +41,11 @@ def is_silent(watch, quiet, one, other):
 
 def late(maker, question, *, sheet=None):
     """("held", n, table, pair), ("silent", one, first, other) or ("ever", one, first, other, start)."""
-    watch = watch_of(maker, question, sheet)
+    return told_late(watch_of(maker, question, sheet))
+
+
+def told_late(watch):
+    """How late the question of a watch is sure, as late tells it."""
     table = watch.least()
     apart = {pair: True for pair in table if is_apart(watch, *pair)}
     quiet = watch.quiet([one for one, _ in table])
@@ -87,7 +94,11 @@ def held(watch, most):
 
 def shows_late(maker, question, value, *, sheet=None):
     """Whether any value is a lateness that holds, a silent or an ever, right by itself."""
-    watch = watch_of(maker, question, sheet)
+    return shows_told(watch_of(maker, question, sheet), value)
+
+
+def shows_told(watch, value):
+    """Whether any value is right by itself as told of a watch."""
     if is_tuple_of(value, 4) and value[0] == "held":
         _, most, table, pair = value
         if not is_whole(most) or not is_late_table(watch, most, table):

@@ -75,9 +75,9 @@ class Replay:
 
     def fits(self):
         """Whether the weaving fits, with all marks."""
-        return self.field.ends_so(self.stands(self.whole())) and any([self.closes(node) for node in self.nodes()])
+        return self.field.ends_so(self.stands(self.whole())) and any([self.closes(node) for node in self.all_nodes()])
 
-    def nodes(self):
+    def all_nodes(self):
         """All nodes that it may come to."""
         return closed_table(self, [self.first()], None)
 

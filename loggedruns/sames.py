@@ -24,14 +24,14 @@ class Sames:
 
     def links(self, pair):
         """Where a pair leads, each as (entry, pair)."""
-        left, right = [side.behind(numbers) for side, numbers in zip(self.sides, pair)]
+        left, right = [side.after_entries(numbers) for side, numbers in zip(self.sides, pair)]
         return [(entry, (left.get(entry, ()), right.get(entry, ()))) for entry in self.entries_of(left, right)]
 
     def entries_of(self, left, right):
         """The entries that one of both can get, each once."""
         return list(left) + [entry for entry in right if entry not in left]
 
-    def parts(self, pair):
+    def is_parted(self, pair):
         """Whether just one of both has a stand that is over."""
         return self.sides[0].has_over(pair[0]) != self.sides[1].has_over(pair[1])
 
@@ -51,7 +51,7 @@ def same_logs(one, other):
     sames = Sames(one, other)
     table = closed_table(sames, [sames.first()], LIMIT)
     # They come with the shortest logs first.
-    apart = [pair for pair in table if sames.parts(pair)]
+    apart = [pair for pair in table if sames.is_parted(pair)]
     if not apart:
         return ("same", tuple(sorted([sames.told(pair) for pair in table])))
     _, links = way_to(searched(table, [sames.first()]), apart[0])
@@ -64,12 +64,12 @@ class Writing:
 
     def __init__(self, alikes, log):
         self.alikes = alikes
-        self.log = log
+        self.entries = log
 
     def links(self, member):
         """Where a member leads, each as (step, member)."""
         done, one = member
-        awaited = self.log[done:done + 1]
+        awaited = self.entries[done:done + 1]
         return [(step, (done if entry is None else done + 1, there)) for step, entry, there in self.alikes.moves(one)
                 if entry is None or [entry] == awaited]
 
@@ -105,7 +105,7 @@ def is_table_of_sames(one, other, value):
         return False
     sames = Sames(one, other)
     members = {(sames.heard(0, left), sames.heard(1, right)): True for left, right in value}
-    return is_closed(sames, members, [sames.first()]) and not any([sames.parts(pair) for pair in members])
+    return is_closed(sames, members, [sames.first()]) and not any([sames.is_parted(pair) for pair in members])
 
 
 def are_stands(forms, value):
@@ -123,5 +123,5 @@ def is_alone(maker, other, run):
         return False
     numbers = ends.first()
     for entry in trail.log(0):
-        numbers = ends.behind(numbers).get(entry, ())
+        numbers = ends.after_entries(numbers).get(entry, ())
     return not ends.has_over(numbers)

@@ -32,7 +32,7 @@ def watcher(maker, question):
 
 def kinds_of(ends, table):
     """For each set a number of its kind: alike just if behind any log both tell the same."""
-    kinds = {ones: WORDS.index(ends.word(ones)) for ones in table}
+    kinds = {ones: WORDS.index(ends.word_of(ones)) for ones in table}
     many = 0
     while many < len(set(list(kinds.values()))):
         many = len(set(list(kinds.values())))
@@ -54,7 +54,7 @@ def numbered(ends, table, kinds):
             if kinds[there] not in numbers:
                 numbers[kinds[there]] = len(queue)
                 queue.append(there)
-        words.append(ends.word(ones))
+        words.append(ends.word_of(ones))
         found.append({entry: numbers[kinds[there]] for entry, there in table[ones]})
     return (tuple(words), found)
 
@@ -72,8 +72,8 @@ def shows_watcher(maker, question, value):
     seen = {queue[0]: True}
     while queue:
         state, ones = queue.pop()
-        behind = ends.behind(ones)
-        if words[state] != ends.word(ones) or list(behind) != sorted(found[state]):
+        behind = ends.after_entries(ones)
+        if words[state] != ends.word_of(ones) or list(behind) != sorted(found[state]):
             return False
         for entry in behind:
             pair = (found[state][entry], behind[entry])

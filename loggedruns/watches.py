@@ -1,38 +1,45 @@
-"""Pairs of alike runs that go on: behind runs that fit a sheet, or without one from the first stand on."""
+"""Pairs of alike runs that go on: behind runs that are told by a log, or without one from the first stand on."""
 
 from loggedruns.alikes import LIMIT, Alikes
 from loggedruns.answers import run_to
 from loggedruns.errors import NoRuns, TooMany
 from loggedruns.fields import closed_table, closing, least_table
 from loggedruns.minded import MindedField
-from loggedruns.recalls import Recall
 from loggedruns.sheets import brief, is_fit
-from loggedruns.walks import Walk, followed
+from loggedruns.walks import followed
 from loggedruns.ways import ringed, searched
 from loggedruns.words import is_tuple_of
 
 
-class Watch:
-    """The pairs of a maker's alike runs, with the memory for a question."""
+class Fitting:
+    """The runs that fit a sheet."""
 
-    def __init__(self, maker, question, sheet):
-        self.walk = Walk(maker, Recall(maker, question))
+    def __init__(self, walk, sheet):
+        self.walk = walk
         self.sheet = sheet
-        self.alikes = Alikes(self.walk)
-        # For each node at which runs go on, a run that comes to it.
-        self.begins = {}
-        if sheet is None:
-            self.begins[self.alikes.number_of(self.walk.first())] = ()
-        else:
-            self.note_fitting()
 
-    def note_fitting(self):
-        """Notes the nodes that runs that fit have at their ends."""
+    def ends(self):
+        """For each node that these runs have at their ends, one of them."""
         field = MindedField(self.walk, brief(self.sheet), None)
         table = least_table(field, None)
         found = searched(table, [field.first()])
-        for member in closing(field, table):
-            self.begins.setdefault(self.alikes.number_of((member[0], member[2])), run_to(found, member))
+        return {(member[0], member[2]): run_to(found, member) for member in closing(field, table)}
+
+    def has(self, run, trail):
+        """Whether a run, of which this is the trail, is one of them."""
+        return is_fit(self.walk.maker, self.sheet, trail.last()[0], trail.log(0), None)
+
+
+class Watch:
+    """The pairs of alike runs of a walk; source has the runs behind which they go on, None if there is no log."""
+
+    def __init__(self, walk, source):
+        self.walk = walk
+        self.source = source
+        self.alikes = Alikes(walk)
+        ends = {walk.first(): ()} if source is None else source.ends()
+        # For each node at which runs go on, a run that comes to it.
+        self.begins = {self.alikes.number_of(node): ends[node] for node in ends}
         if not self.begins:
             raise NoRuns(None)
 
@@ -49,16 +56,16 @@ class Watch:
 
     def run(self, start, steps):
         """The run that goes on from a start by these steps."""
-        return steps if self.sheet is None else (self.begins[start], steps)
+        return steps if self.source is None else (self.begins[start], steps)
 
     def trail(self, value):
         """The trail of the further steps of any value that is a run that goes on, None of other ones."""
-        if self.sheet is None:
+        if self.source is None:
             return followed(self.walk, self.walk.first(), value)
         if not is_tuple_of(value, 2):
             return None
         ahead = followed(self.walk, self.walk.first(), value[0])
-        if ahead is None or not is_fit(self.walk.maker, self.sheet, ahead.last()[0], ahead.log(0), None):
+        if ahead is None or not self.source.has(value[0], ahead):
             return None
         return followed(self.walk, ahead.last(), value[1])
 

@@ -235,7 +235,7 @@ class TestCode(unittest.TestCase):
     def test_errors(self):
         own = [node.name for node in classes(TREES['errors'])]
         for place, node, _ in self.each(ast.ExceptHandler):
-            named = node.elts if isinstance(node.type, ast.Tuple) else [node.type]
+            named = node.type.elts if isinstance(node.type, ast.Tuple) else [node.type]
             self.assertFalse([one for one in named if getattr(one, 'id', '') not in [*own, 'KeyError']], place)
         for place, node, _ in self.each(ast.Raise):
             self.assertTrue(node.exc is None or isinstance(node.exc, ast.Call) and called(node.exc) in own, place)
@@ -305,6 +305,8 @@ class TestInterface(unittest.TestCase):
         'answers': 'answer shows_answer', 'grounds': 'grounds shows_grounds', 'cases': 'tests shows_tests',
         'lateness': 'late shows_late', 'settling': 'settled shows_settled', 'changes': 'changed',
         'choices': 'cheapest shows_cheapest', 'front': 'front shows_front', 'watchers': 'watcher shows_watcher',
+        'books': 'Book', 'findings': 'shows_asked shows_reasons shows_until', 'journals': 'read_journal course',
+        'desk': 'Desk', 'texts': 'show_item show_items show_question show_run read_item read_items read_question read_run',
         'crowds': 'woven fits_woven whose why shows_why answer_of shows_answer_of', 'sames': 'same_logs shows_same',
     }
 
@@ -336,13 +338,38 @@ class TestInterface(unittest.TestCase):
             'whose': 'crowd sheet copy index *end', 'why': 'crowd sheet copy index number *end',
             'shows_why': 'crowd sheet copy index number value *end', 'answer_of': 'crowd sheet number question *end',
             'shows_answer_of': 'crowd sheet number question value *end', 'same_logs': 'one other',
-            'shows_same': 'one other value',
+            'shows_same': 'one other value', 'shows_asked': 'book log seat question value',
+            'shows_reasons': 'book log seat question value', 'shows_until': 'book log question value',
+            'show_item': 'item', 'show_items': 'items', 'show_question': 'question', 'show_run': 'run', 'read_item': 'text',
+            'read_items': 'text', 'read_question': 'text', 'read_run': 'text', 'read_journal': 'lines',
+            'course': 'lines log seat question',
         }
         found = {node.name: node.args for module in self.names for node in TREES[module].body
                  if isinstance(node, ast.FunctionDef)}
         for name, told in words.items():
             arguments = [one.arg for one in found[name].args] + ['*' + one.arg for one in found[name].kwonlyargs]
             self.assertEqual(' '.join(arguments), told)
+
+    def test_methods(self):
+        """Each method that is listed for a class stands in its body, with the parameters as they are told."""
+        words = {
+            ('programs', 'Program'): '__init__:text line:label', ('makers', 'Recorder'): '__init__:*level,*every,*names',
+            ('makers', 'Maker'): '__init__:program,recorder', ('desk', 'Desk'): '__init__:lines say:line',
+            ('books', 'Book'): '__init__:maker revise:first,last,lines,*recorder begin_log:seats sheet_of:log end_of:log '
+                               'seats_of:log add:log,item,*second beside:log,items fill:log,copy,index,items '
+                               'mend:log,copy,index,entry finish:log,end tie:log,other,items '
+                               'note:log,seat,copy,index,question,truth drop:number findings_of:log '
+                               'ask:log,seat,question makers_of:log,seat writers:log,copy,index '
+                               'reasons:log,seat,question until:log,question suspects:question undo: redo: trial: '
+                               'tried:deed,*hold',
+        }
+        for (module, name), told in words.items():
+            found = {one.name: one for one in classes(TREES[module])}[name]
+            methods = {node.name: node.args for node in found.body if isinstance(node, ast.FunctionDef)}
+            for word in told.split():
+                method, _, parameters = word.partition(':')
+                arguments = [one.arg for one in methods[method].args] + ['*' + one.arg for one in methods[method].kwonlyargs]
+                self.assertEqual(','.join(arguments), ','.join(['self', *[one for one in parameters.split(',') if one]]))
 
 
 if __name__ == '__main__':
