@@ -5,9 +5,6 @@ import itertools
 from loggedruns.questions import is_question
 from tests import brute, plain, plaincrowd
 
-NONE, SUITS = 0, 1
-
-
 class PlainLog:
     """Seats, sheet, end and findings of a log, each finding (number, seat, copy, index, question, truth)."""
 
@@ -49,12 +46,17 @@ class PlainMakers:
                     continue
                 logs = [plaincrowd.got(entries) for _, _, entries in parts]
                 for order in plaincrowd.numberings([len(one) for one in logs]):
-                    if brute.ways(log.sheet, plaincrowd.log_of(logs, order)) and self.suits(log, numbers, parts, order):
+                    if self.reads(log.sheet, plaincrowd.log_of(logs, order)) and self.suits(log, numbers, parts, order):
                         found.append((numbers, order, parts))
         return found
 
+    def reads(self, sheet, log):
+        if (sheet, log) not in self.known:
+            self.known[sheet, log] = tuple((len(copy), 0) for copy in sheet) in plain.spots(sheet, log)
+        return self.known[sheet, log]
+
     def suits(self, log, numbers, parts, order):
-        return any(True for _ in self.moments(log, numbers, parts, order))
+        return not log.findings or any(True for _ in self.moments(log, numbers, parts, order))
 
     def moments(self, log, numbers, parts, order, item=None):
         """For each way of a weaving by which it suits: by whose run the item (copy, index) is taken."""
