@@ -3,7 +3,7 @@
 import itertools
 
 from loggedruns.questions import is_question
-from tests import brute, plain, plaincrowd
+from tests import brute, plain, plaincrowd, plainlate
 
 class PlainLog:
     """Seats, sheet, end and findings of a log, each finding (number, seat, copy, index, question, truth)."""
@@ -140,3 +140,76 @@ class PlainMakers:
         if end is not None and is_so(left, numbers, None):
             end = None
         return tuple(left) + (() if end is None else ((len(log.sheet), 0),)), tuple(numbers)
+
+
+class PlainTable:
+    """The members (stands, spot, memory, marks) of a log for a tuple of makers and a question of a seat."""
+
+    def __init__(self, makers, log, numbers, seat, question):
+        self.crowd = [makers[number] for number in numbers]
+        self.log = log
+        self.asked = [(finding[1], finding[4]) for finding in log.findings] + [(seat, question)]
+
+    def with_marks(self, stands, spot, memory, marks):
+        found = []
+        for k, (_, seat, copy, index, question, truth) in enumerate(self.log.findings):
+            is_so = plainlate.is_true(self.crowd[seat], question, (stands[seat], memory[k]))
+            found.append(marks[k] or (spot[copy] == (index, 0) and is_so is truth))
+        return stands, spot, memory, tuple(found)
+
+    def first(self):
+        stands, spot = plaincrowd.first_pair(self.crowd, self.log.sheet)
+        memory = tuple([plainlate.first(self.crowd[seat], question)[1] for seat, question in self.asked])
+        return self.with_marks(stands, spot, memory, (False,) * len(self.log.findings))
+
+    def targets(self, member):
+        found = []
+        for mover, step, (stands, spot) in plaincrowd.targets(self.crowd, self.log.sheet, member[:2]):
+            memory = tuple([tuple([plainlate.mark_behind(self.crowd[seat], fact, mark, member[0][seat], step, stands[seat])
+                                   for fact, mark in zip(plain.facts(question), marks)]) if seat == mover else marks
+                            for (seat, question), marks in zip(self.asked, member[2])])
+            found.append(self.with_marks(stands, spot, memory, member[3]))
+        return found
+
+    def least(self):
+        return plaincrowd.least(self.first(), self.targets)
+
+    def has_form(self, value):
+        if not isinstance(value, tuple) or len(value) != 4 or not plaincrowd.is_pair(self.crowd, self.log.sheet, value[:2]):
+            return False
+        _, _, memory, marks = value
+        if not isinstance(memory, tuple) or len(memory) != len(self.asked) or not isinstance(marks, tuple):
+            return False
+        if not all(plaincrowd.is_memory(question, one) for (_, question), one in zip(self.asked, memory)):
+            return False
+        return len(marks) == len(self.log.findings) and all(isinstance(mark, bool) for mark in marks)
+
+    def closes(self, member):
+        return all(member[3]) and plaincrowd.closes(self.crowd, self.log.sheet, member[:2], self.log.end)
+
+    def truth(self, member):
+        seat, question = self.asked[-1]
+        return plainlate.is_true(self.crowd[seat], question, (member[0][seat], member[2][-1]))
+
+    def shows(self, word, value):
+        """Whether any value is a cover by which the word is right."""
+        if not isinstance(value, tuple) or not all(self.has_form(member) for member in value):
+            return False
+        if not plaincrowd.is_ascending(value) or self.first() not in value:
+            return False
+        if not all(there in value for member in value for there in self.targets(member)):
+            return False
+        truths = {self.truth(member) for member in value if self.closes(member)}
+        return truths <= {'always': {True}, 'never': {False}, 'none': set()}[word]
+
+
+def shows_tables(makers, log, choices, seat, question, word, value):
+    """Whether any value is tables by which the word is right."""
+    if word not in ('always', 'never', 'none') or not isinstance(value, tuple) or len(value) != len(choices):
+        return False
+    for numbers, pair in zip(choices, value):
+        if not isinstance(pair, tuple) or len(pair) != 2 or repr(pair[0]) != repr(numbers):
+            return False
+        if not PlainTable(makers, log, numbers, seat, question).shows(word, pair[1]):
+            return False
+    return True

@@ -8,7 +8,7 @@ from loggedruns.settling import settled
 from loggedruns.sheets import fits
 from loggedruns.stands import led
 from tests import generate, plain, plainlate
-from tests.common import AGAIN, GATE, ODD, TINY, Case, do, gone, maker, write
+from tests.common import GATE, ODD, TINY, Case, do, maker
 from tests.test_covers import BAD_SHEETS
 
 GO, HOT, U = ('h', 'go', ()), ('h', 'hot', ()), ('h', 'u', ())

@@ -4,7 +4,7 @@ import unittest
 from loggedruns.entries import entries
 from loggedruns.errors import BadQuestion, TooMany
 from loggedruns.watchers import shows_watcher, watcher
-from tests import generate, plain, plainlate
+from tests import generate, plainlate
 from tests.common import GATE, ODD, TINY, Case, maker, near
 
 ASKED = ('asked', 'a', 1)
