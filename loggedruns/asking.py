@@ -26,11 +26,17 @@ def asked(inquiry):
         for member in closing(field, table):
             found.setdefault(field.truth(member), (numbers, field, table, member))
     if len(found) == 2:
-        return ("sometimes", *[(found[truth][0], weaving_to(*found[truth][1:])) for truth in (True, False)])
+        return ("sometimes", told_weaving(found[True]), told_weaving(found[False]))
     for word, truth in TRUTHS.items():
         if truth in found:
             return (word, told_tables(tables))
     return ("none", told_tables(tables))
+
+
+def told_weaving(found):
+    """What was found, the numbers of makers, a field, its table and a member, as (numbers, weaving)."""
+    numbers, field, table, member = found
+    return (numbers, weaving_to(field, table, member))
 
 
 def shows(inquiry, value):

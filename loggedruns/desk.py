@@ -41,8 +41,8 @@ def tell_writers(book, parts):
 def tell_reasons(book, parts):
     log, seat, question = parts
     left, numbers, _, _ = book.reasons(log, seat, question)
-    places = joined([f"{copy}:{index}" for copy, index in left])
-    return f"{places} / {joined([str(number) for number in numbers])}"
+    places, findings = [f"{copy}:{index}" for copy, index in left], [str(number) for number in numbers]
+    return " / ".join([joined(places), joined(findings)])
 
 
 def tell_until(book, parts):

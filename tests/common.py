@@ -48,6 +48,14 @@ def gone(made, *run):
     return stand
 
 
+def standing(rows, fewer, least):
+    """A maker that writes nothing: 5 stands, 16 for each of rows, 4 for each of fewer, one for each of least, and more."""
+    lines = ['cell x 3', 'cell y 3', 'hand h', '  a: ask x', '  ask y', *['  flush'] * rows]
+    lines += ['  set y 0', *['  flush'] * fewer] if fewer else []
+    lines += ['  set x 0', *['  flush'] * least] if least else []
+    return maker('\n'.join(lines))
+
+
 def strict(value):
     """A text by which values that are equal but of another kind differ."""
     if isinstance(value, (tuple, list)):

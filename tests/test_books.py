@@ -6,7 +6,7 @@ from loggedruns.errors import (BadEnd, BadItem, BadItems, BadLines, BadMaker, Ba
 from loggedruns.makers import Maker, Recorder
 from loggedruns.programs import Program
 from tests.bookcase import ASKED, GO, HOT, PLAIN, BookCase, shown
-from tests.common import ODD, TINY, maker
+from tests.common import ODD, TINY, maker, standing
 from tests.test_covers import BAD_ENDS
 
 U = ('h', 'u', ())
@@ -632,6 +632,21 @@ class TestLimits(BookCase):
         self.refused(book, TooMany, 4000, book.begin_log, (None, None))
         self.refused(book, BadSeats, (2, 2), book.begin_log, (2, 2))
         self.same(book.begin_log((1, 0)), 1)
+
+    def test_just(self):
+        """4000 members are let, 4002 are not."""
+        for one, other, fine in ((standing(1, 1, 4), standing(3, 1, 2), True), (standing(1, 3, 4), standing(2, 0, 3), False)):
+            book = Book(one)
+            text = one.program.text.split('\n')
+            book.revise(0, len(text), tuple(other.program.text.split('\n')))
+            if fine:
+                book.begin_log((0, 1))
+                self.same(len(book.ask(0, 0, ('fell', 1))[1][0][1]), 4000)
+                book.begin_log((0, 0))
+                self.refused(book, TooMany, 4000, book.begin_log, (1, 1))
+            else:
+                self.refused(book, TooMany, 4000, book.begin_log, (0, 1))
+                self.refused(book, TooMany, 4000, book.begin_log, (1, 0))
 
     def test_deeds(self):
         """A log of seats that are not known: with a further maker each deed is too much, but drop, revise and undo are not."""

@@ -10,7 +10,7 @@ from loggedruns.programs import Program
 from loggedruns.questions import is_question, judge
 from loggedruns.sheets import fits
 from tests import brute, generate, plaincrowd
-from tests.common import GATE, ODD, TINY, Case, do, maker, near, write
+from tests.common import GATE, ODD, TINY, Case, do, maker, near, standing, write
 from tests.test_covers import BAD_ENDS, BAD_SHEETS
 
 ENDS = (None, 'over', 'open')
@@ -337,18 +337,13 @@ class TestErrors(Case):
 
     def test_limit(self):
         """Two runs stand anywhere: there are as many pairs as the product of their stands."""
-        sizes = {}
-        for text in ('cell x 3\ncell y 3\nhand h\n  a: ask x\n  ask y' + '\n  ask x' * k for k in range(18)):
-            made = maker(text)
-            sizes[len(cover(made, ((),)))] = made
-        just = [(left, right) for left in sizes for right in sizes if 3500 < left * right <= 4000]
-        beyond = [(left, right) for left in sizes for right in sizes if 4000 < left * right]
-        for pair, fine in ((max(just, key=lambda pair: pair[0] * pair[1]), True), (min(beyond, key=lambda pair: pair[0] * pair[1]), False)):
-            crowd = tuple([sizes[size] for size in pair])
+        for sizes, crowd, fine in (((50, 80), (standing(1, 1, 4), standing(3, 1, 2)), True), ((58, 69), (standing(1, 3, 4), standing(2, 0, 3)), False)):
+            self.same(tuple(len(cover(made, ((),))) for made in crowd), sizes)
             good = {**self.good, 'crowd': crowd, 'sheet': ((),)}
             weaving = (((do(0, 0),), ()), ())
             if fine:
                 self.same(woven(crowd, ((),))[0], 'weaving')
+                self.same(len(answer_of(crowd, ((),), 0, ('fell', 1))[1]), 4000)
                 continue
             self.told(TooMany, 4000, woven, crowd, ((),))
             self.told(TooMany, 4000, answer_of, crowd, ((),), 0, ('is', 'x', 0))

@@ -267,6 +267,22 @@ class TestCode(unittest.TestCase):
             if isinstance(node.func, ast.Attribute) and name in METHODS:
                 self.assertFalse(node.keywords, place)
 
+    def test_stars(self):
+        """Behind a star in a call stand only names and attributes; there are no double stars."""
+        for place, node, _ in self.each(ast.Call):
+            for one in node.args:
+                self.assertTrue(not isinstance(one, ast.Starred) or isinstance(one.value, ast.Name), place)
+            self.assertNotIn(None, [one.arg for one in node.keywords], place)
+
+    def test_exits(self):
+        """An __exit__ only assigns attributes, below tests for None."""
+        for place, node, _ in self.each(ast.FunctionDef):
+            if node.name == '__exit__':
+                for inner in ast.walk(node):
+                    self.assertNotIsInstance(inner, (ast.Call, ast.Subscript, ast.For, ast.While, ast.Try, ast.Raise), place)
+                    if isinstance(inner, ast.Compare):
+                        self.assertIsInstance(inner.ops[0], (ast.Is, ast.IsNot), place)
+
     def test_no_loop_changes_what_it_goes_over(self):
         changing = ('append', 'clear', 'extend', 'insert', 'pop', 'remove', 'reverse', 'setdefault', 'update')
         for place, node, _ in self.each(ast.For):
