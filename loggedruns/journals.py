@@ -73,8 +73,10 @@ def course(lines, log, seat, question):
     _, shelves = shelves_of(lines)
     found, last = [], GONE
     for at, shelf in enumerate(shelves):
-        word = word_at(shelf, log, seat, question)
-        if word != last:
-            found.append((at + 1, word))
-        last = word
+        # Most lines are of other logs.
+        if at == 0 or not shelf.has_same(shelves[at - 1], log):
+            word = word_at(shelf, log, seat, question)
+            if word != last:
+                found.append((at + 1, word))
+            last = word
     return tuple(found)

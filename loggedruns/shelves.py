@@ -55,6 +55,10 @@ class Shelf:
             raise NoLog(log)
         return self.records[log]
 
+    def has_same(self, other, log):
+        """Whether a log, which may be any value, is just as on another shelf, with the same makers."""
+        return is_whole(log) and self.walks == other.walks and self.records.get(log) == other.records.get(log)
+
     def seated(self, log, seat):
         """The record of a log with a seat, which both may be any values."""
         record = self.record_of(log)

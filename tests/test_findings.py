@@ -245,6 +245,15 @@ class TestReasons(BookCase):
         self.told(BadQuestion, 0, book.reasons, 0, 0, 0)
         self.told(NoSeat, 1, book.reasons, 0, 1, 0)
         self.assertIs(shows_reasons(book, 0, 0, ASKED, ((), (), 'sometimes', ())), False)
+        book.revise(0, 7, tuple(PLAIN.program.text.split('\n')))
+        book.begin_log()
+        book.note(1, 0, 0, 0, ('did', 'd', 1), False)
+        self.told(NoGrounds, 'none', book.reasons, 1, 0, ASKED)
+        # No weaving is left by it: each word is right of what is left, with tables for it.
+        self.assertIs(shows_reasons(book, 1, 0, ASKED, ((), (0,), 'always', ())), True)
+        self.assertIs(shows_reasons(book, 1, 0, ASKED, ((), (0,), 'never', ())), True)
+        self.assertIs(shows_reasons(book, 1, 0, ASKED, ((), (0,), 'none', ())), False)
+        self.assertIs(shows_reasons(book, 1, 0, ASKED, ((), (), 'always', ())), False)
         self.assertIs(shows_reasons(book, 0, 0, ASKED, None), False)
 
     def test_shows(self):
