@@ -72,10 +72,11 @@ def course(lines, log, seat, question):
     """(number of lines, word) for each number of first lines behind which the word of ask is another one."""
     _, shelves = shelves_of(lines)
     found, last = [], GONE
-    for at, shelf in enumerate(shelves):
+    # Behind the first line there are no logs.
+    for at in range(1, len(shelves)):
         # Most lines are of other logs.
-        if at == 0 or not shelf.has_same(shelves[at - 1], log):
-            word = word_at(shelf, log, seat, question)
+        if not shelves[at].has_same(shelves[at - 1], log):
+            word = word_at(shelves[at], log, seat, question)
             if word != last:
                 found.append((at + 1, word))
             last = word

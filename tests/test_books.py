@@ -515,6 +515,11 @@ class TestNote(BookCase):
                                                      ('question', 0, BadQuestion), ('truth', 0, BadTruth)])
         for index in (0, 2):
             book.tried(lambda same: same.note(0, 0, 0, index, ASKED, index == 2))
+        book = self.book(None, (None,), None, GO, None, HOT)
+        for index in (0, 2):
+            self.refused(book, NoItem, index, book.note, **{**self.good, 'index': index})
+        for index in (1, 3, 4):
+            book.tried(lambda same: same.note(0, 0, 0, index, ASKED, True))
 
     def test_numbers(self):
         book = self.book(None, (0,))

@@ -252,7 +252,7 @@ class TestShows(Case):
                       list(words), (), (*words, 1), (*words, ()), ('sometimes', 'never', 'always')):
             self.assertIs(self.shows((wrong, moves)), False)
         for wrong in (moves[:1], moves[1:], moves[::-1], (*moves, moves[1]), ((0, GO, 1), (0, GO, 1), (1, HOT, 2)),
-                      ((0, GO, 1), (0, GO, 2), (1, HOT, 2)), (*moves, (2, HOT, 2)), ((0, GO, 2), (1, HOT, 2)),
+                      ((0, GO, 1), (0, GO, 2), (1, HOT, 2)), ((0, GO, 0), (0, GO, 1), (1, HOT, 2)), (*moves, (2, HOT, 2)), ((0, GO, 2), (1, HOT, 2)),
                       ((0, GO, 1), (1, HOT, 3)), ((0, GO, 1), (1, HOT, -1)), ((False, GO, 1), (1, HOT, 2)),
                       ((0, GO, True), (1, HOT, 2)), ((0, list(GO), 1), (1, HOT, 2)), list(moves), (), ((0, GO, 1), (1, GO, 2)),
                       ((0, ('h', 'go', []), 1), (1, HOT, 2)), ((0, (None, 'go', ()), 1), (1, HOT, 2)), (*moves, ()),
